@@ -1,0 +1,1 @@
+"""Fingerbooks: schemes of sequences with two ends, each decided for all lengths."""

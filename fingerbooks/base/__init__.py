@@ -1,0 +1,1 @@
+"""Words, pairs, forms and rows: what all other modules speak of."""

@@ -1,0 +1,158 @@
+"""Rules of the language of the program that a test can see: L1, L2, L4, L7, L8, L10, L12, L14, L17, L27."""
+
+import ast
+import builtins
+import os
+import re
+import unittest
+import warnings
+
+ROOT = os.path.dirname(os.path.dirname(os.path.abspath(__file__)))
+PACKAGE = os.path.join(ROOT, "fingerbooks")
+LIBRARY = {
+    "heapq": {"heappush", "heappop", "heapify", "heapreplace", "heappushpop"},
+    "math": {"gcd", "lcm", "isqrt", "comb", "perm", "factorial"},
+    "itertools": {
+        "product", "combinations", "permutations", "chain", "accumulate", "pairwise", "islice", "zip_longest",
+    },
+    "collections": {"defaultdict", "deque"},
+    "__future__": {"annotations"},
+}
+BUILTINS = set(
+    "len range enumerate zip min max sum abs sorted reversed int str bool bytes list tuple dict set isinstance ord "
+    "repr any all divmod pow iter next map getattr hasattr setattr type super property staticmethod classmethod object "
+    "Exception ValueError TypeError KeyError IndexError LookupError ZeroDivisionError ArithmeticError OverflowError "
+    "RuntimeError NotImplementedError AttributeError StopIteration NotImplemented True False None float".split()
+)
+DECORATORS = {"property", "staticmethod", "classmethod"}
+DOUBLE = re.compile(r"^__")
+BARRED = {
+    "register", "mro", "elements", "open", "input", "law", "version_info", "with_traceback", "add_note", "typing",
+    "enum", "Enum", "Generic", "Protocol", "ABC", "namedtuple", "NamedTuple", "TypedDict", "dataclass", "overload",
+}
+
+
+def files():
+    found = []
+    for folder, folders, names in os.walk(PACKAGE):
+        folders[:] = sorted(name for name in folders if name != "__pycache__")
+        found.extend(os.path.join(folder, name) for name in sorted(names))
+    return found
+
+
+def text_of(path):
+    with open(path, encoding="utf-8", newline="") as source:
+        return source.read()
+
+
+def nodes():
+    for path in files():
+        for node in ast.walk(ast.parse(text_of(path))):
+            yield os.path.relpath(path, ROOT), node
+
+
+class Files(unittest.TestCase):
+    def test_there_are_files_of_python_alone(self):
+        self.assertTrue(0 < len(files()) <= 100)
+        for path in files():
+            self.assertRegex(os.path.basename(path), r"^[a-z0-9_]+\.py$")
+
+    def test_each_folder_is_a_package(self):
+        for path in files():
+            self.assertTrue(os.path.exists(os.path.join(os.path.dirname(path), "__init__.py")), path)
+
+    def test_no_file_beside_a_folder_of_its_name(self):
+        for path in files():
+            self.assertFalse(os.path.isdir(path[:-3]), path)
+
+    def test_sizes_and_characters(self):
+        for path in files():
+            text = text_of(path)
+            lines = text.split("\n")
+            self.assertLessEqual(len(lines) - 1, 399, path)
+            self.assertTrue(text.endswith("\n"), path)
+            self.assertRegex(text, r"\A[\n -~]*\Z")
+            for number, line in enumerate(lines, 1):
+                self.assertLessEqual(len(line), 120, f"{path}:{number}")
+                self.assertEqual(line, line.rstrip(), f"{path}:{number}")
+
+    def test_python_gives_no_warning(self):
+        for path in files():
+            with warnings.catch_warnings():
+                warnings.simplefilter("error")
+                compile(text_of(path), path, "exec")
+
+
+class Code(unittest.TestCase):
+    def test_functions_have_at_most_40_lines(self):
+        for path, node in nodes():
+            if isinstance(node, ast.FunctionDef):
+                self.assertLessEqual(node.end_lineno - node.lineno + 1, 40, f"{path}: {node.name}")
+
+    def test_imports(self):
+        for path, node in nodes():
+            self.assertNotIsInstance(node, ast.Import, path)
+            if isinstance(node, ast.ImportFrom):
+                self.assertEqual(node.level, 0, path)
+                self.assertEqual([alias.asname for alias in node.names], [None] * len(node.names), path)
+                if not node.module.startswith("fingerbooks."):
+                    self.assertLessEqual({alias.name for alias in node.names}, LIBRARY.get(node.module, set()), path)
+
+    def test_no_class_is_decorated_and_methods_only_as_allowed(self):
+        for path, node in nodes():
+            if isinstance(node, ast.ClassDef):
+                self.assertEqual(node.decorator_list, [], path)
+            if isinstance(node, ast.FunctionDef):
+                for decorator in node.decorator_list:
+                    allowed = isinstance(decorator, ast.Name) and decorator.id in DECORATORS
+                    self.assertTrue(allowed or getattr(decorator, "attr", "") == "setter", f"{path}: {node.name}")
+
+    def test_no_statements_and_values_outside_the_language(self):
+        barred = (ast.AsyncFunctionDef, ast.AsyncFor, ast.AsyncWith, ast.Await, ast.Div, ast.MatMult)
+        for path, node in nodes():
+            self.assertNotIsInstance(node, barred, path)
+            if isinstance(node, ast.Constant):
+                self.assertNotIsInstance(node.value, (float, complex), f"{path}:{node.lineno}")
+
+    def test_no_other_builtins(self):
+        for path, node in nodes():
+            if isinstance(node, ast.Name) and hasattr(builtins, node.id):
+                self.assertIn(node.id, BUILTINS, f"{path}:{node.lineno}")
+                self.assertIsInstance(node.ctx, ast.Load, f"{path}:{node.lineno}")
+
+    def test_plain_names(self):
+        for path, node in nodes():
+            for name in names_of(node):
+                self.assertRegex(name, r"^(_?[A-Za-z][A-Za-z0-9_]*|_|__[a-z]+__)$", path)
+                self.assertNotIn(name, BARRED, path)
+
+    def test_generators_are_not_given_to_functions_that_look_at_truth(self):
+        # Classes of this package have an __eq__, so these take lists.
+        for path, node in nodes():
+            if isinstance(node, ast.Call) and isinstance(node.func, ast.Name):
+                if node.func.id in ("any", "all", "min", "max", "sum", "sorted"):
+                    for argument in node.args:
+                        self.assertNotIsInstance(argument, ast.GeneratorExp, f"{path}:{node.lineno}")
+
+
+def names_of(node):
+    """The names that a node uses or defines."""
+    found = []
+    for attribute in ("id", "name", "attr", "arg"):
+        name = getattr(node, attribute, None)
+        if isinstance(name, str) and not isinstance(node, ast.alias):
+            found.append(name)
+    return found
+
+
+class Docstrings(unittest.TestCase):
+    def test_every_module_class_and_function_of_the_interface_tells_what_it_is_for(self):
+        for path, node in nodes():
+            if isinstance(node, (ast.Module, ast.ClassDef)):
+                self.assertTrue(ast.get_docstring(node), path)
+            if isinstance(node, ast.FunctionDef) and not DOUBLE.match(node.name):
+                self.assertTrue(ast.get_docstring(node), f"{path}: {node.name}")
+
+
+if __name__ == "__main__":
+    unittest.main()
