@@ -6,6 +6,7 @@ MAX_FIGURES = 60
 MAX_LETTERS = 8
 
 # Python turns very long integers into texts slowly or not at all, so sizes are compared instead of figures counted.
+# The exponent is MAX_FIGURES, which must be written as a literal there.
 _TOO_GREAT = 10 ** 60
 
 
