@@ -3,7 +3,14 @@
 import unittest
 
 from fingerbooks.base import forms, words
+from fingerbooks.book import books, pages
+from fingerbooks.decide import tables
+from fingerbooks.deeds import rows
+from fingerbooks.read import depth, readers
+from fingerbooks.seq import places, sequences
+from tests.books import PAIRS, TIGHT
 
+# Pairs of what is asked and the answer; what has no answer gives names to values for what follows.
 EXAMPLES = (
     (
         '[is_integer(10 ** 60), is_count(True), is_name("ninechars"), is_renaming(("a", "b"), {"b": "a", "a": "b"})]',
@@ -19,15 +26,130 @@ EXAMPLES = (
         "is_form((8, 0))]",
         "[((1, 0),), ((0, 1), (5, 2)), (2, 4), (0, 0), False]",
     ),
+    ("reader, tight = PAIRS.reader, TIGHT.reader", None),
+    (
+        "[str(reader), reader.behind(((1, 3), (0, 2))), reader.behind(((0, 1), (1, 1))), "
+        "reader.takes(((1, 1), (0, 0))), len(reader.least())]",
+        "['reader with 3 states, 30 reads', 'e', '', False, 3]",
+    ),
+    (
+        "[is_including(reader, tight), is_including(tight, reader), length_of(2, parting_row(2, reader, tight)), "
+        "reader.spare]",
+        "[True, False, 3, ()]",
+    ),
+    ('page = Page.from_line("page m inner 4.1 to 2.1 pass 1.0 then m")', None),
+    (
+        '[page.place, page.arities, page.mirrored().line, Page("m", "last", (4, 0), (2, 2), (0, 0), "m").arities]',
+        "[('m', 'inner', (4, 1)), (2,), 'page m inner 1.4 to 1.2 pass 0.1 then m', (2, 3)]",
+    ),
+    ('machine = Machine(2, (page, Page.from_line("page m last 4.1 to 2.1 pass 1.0 then m")))', None),
+    (
+        '[machine.step("m", "inner", (4, 1)), machine.step("m", "last", (3, 1)), machine.step("m", "last", (-1, 1))]',
+        "[((2, 1), (1, 0), 'm'), ((3, 1), (0, 0), 'm'), None]",
+    ),
+    (
+        'machine.run("m", (1, 0), ((3, 1), (1, 1)))',
+        "(((2, 1), (2, 1)), (('inner', (4, 1), ((2, 1), (1, 0), 'm')), ('last', (2, 1), ((2, 1), (0, 0), 'm'))))",
+    ),
+    (
+        '[machine.run("m", (1, 0), ((3, 1),))[0], machine.run("m", (-1, 0), ((0, 1),))]',
+        "[((2, 1), (1, 0)), (None, (('last', (-1, 1), None),))]",
+    ),
+    (
+        "[str(PAIRS), PAIRS.is_right(((1, 3), (0, 2))), PAIRS.is_right(((0, 1), (1, 1))), PAIRS.mirrored() == PAIRS]",
+        "['book of arity 2, 3 states, 26 pages', True, False, True]",
+    ),
+    (
+        '[len(TIGHT), TIGHT.lines[1:3], TIGHT.without("read o 2.0 e").is_right(((1, 1), (2, 0))), '
+        'str(TIGHT.with_line("arity 2")) == str(TIGHT)]',
+        "[41, ('first s', 'ends e o'), False, True]",
+    ),
+    (
+        "[[least_length(PAIRS, levels) for levels in range(4)], most_length(PAIRS, 2), missing_length(PAIRS)]",
+        "[[0, 1, 4, 10], 18, None]",
+    ),
+    ('fewer = PAIRS.without("read o 0.1 e").without("read o 1.0 e").without("read s 3.3 o")', None),
+    ('loose = PAIRS.with_line("read s 0.1 o").with_line("read o 0.1 o")', None),
+    (
+        '[missing_length(TIGHT), least_length(fewer, 2), depth_bound(PAIRS, "left"), deep_row(PAIRS, "left", 0), '
+        'deep_row(PAIRS, "left", 1)]',
+        "[None, 6, 0, ((1, 0),), None]",
+    ),
+    (
+        '[depth_bound(loose, "left"), depth_bound(loose, "right"), length_of(2, deep_row(loose, "left", 2))]',
+        "[None, 0, 7]",
+    ),
+    ('less = PAIRS.without("page m last -1.1 to 0.0 pass 0.0 then m")', None),
+    (
+        '[new_row(PAIRS, ((3, 3),), "pushl"), new_row(PAIRS, ((1, 1), (0, 1)), "popl"), '
+        'touched(PAIRS, ((1, 1), (0, 1)), "popl")]',
+        "[((2, 3), (1, 0)), ((2, 1),), (0, 1)]",
+    ),
+    (
+        '[new_row(less, ((1, 1), (0, 1)), "popl"), broken_at(less, ((1, 1), (0, 1)), "popl"), '
+        'touched(PAIRS, ((2, 1), (0, 1)), "pushl")]',
+        "[None, 1, (0,)]",
+    ),
+    ('steps(less, ((1, 1), (0, 1)), "popl")', "(('inner', (0, 1), ((2, 1), (-1, 0), 'm')), ('last', (-1, 1), None))"),
+    (
+        '[row_after(PAIRS, (), ("pushl",) * 5), lengths_along(PAIRS, ((0, 2),), ("popr", "popr", "pushr"))]',
+        "[((3, 2),), (2, 1, 0, 1)]",
+    ),
+    ("row = ((1, 1), (1, 0), (0, 1))", None),
+    (
+        '[spans(2, row), place_of(2, row, 5), number_of(2, row, (2, "right", 0, (1, 0))), outward(2, row, 5)]',
+        "[((0, 'left', 0, 1), (1, 'left', 1, 3), (2, 'right', 3, 7), (0, 'right', 7, 8)), (2, 'right', 0, (1, 0)), 5, "
+        "(2, 2)]",
+    ),
+    (
+        '[beside(2, row, (0, "left", 0, ())), is_place(2, row, (1, "left", 0, (2,)))]',
+        "[(None, (1, 'left', 0, (0,))), False]",
+    ),
+    (
+        '[place_behind(PAIRS, ((3, 1), (1, 1)), "pushl", 2), place_behind(PAIRS, ((1, 1),), "popl", 0), '
+        'staying(PAIRS, ((3, 1), (1, 1)), "pushl")]',
+        "[(1, 'left', 0, (1,)), None, 3]",
+    ),
+    ("six = Sequence(PAIRS, (1, 2, 3, 4, 5, 6))", None),
+    (
+        "[str(six), six.outline, six.sides(0), six.sides(1), six.right_end, six[2], six.popl().popl().popl().outline]",
+        "['sequence of 6 elements, 2 levels', ((2, 2), (0, 1)), (((1,), (2,)), ((5,), (6,))), ((), ((3, 4),)), 6, 3, "
+        "((1, 2),)]",
+    ),
+    (
+        "[six.with_nth(2, 7).content, six.elder(many=4).content, six.mirrored().sides(1), six.pushl(0).popl() == six]",
+        "[(1, 2, 7, 4, 5, 6), (1, 2), (((4, 3),), ()), True]",
+    ),
+    ('table, start = Table(PAIRS, "pushl"), start_of(PAIRS, "pushl")', None),
+    (
+        "[start, str(table), table.finals]",
+        "[('s', (1, 0), 'm', 's', True), 'table of 6 stands, 0 wrong', (('', (0, 0), 'm', 'e', True), "
+        "('', (0, 0), 'm', 'o', True))]",
+    ),
+    (
+        '[len(moves(PAIRS, "pushl", start)), moves(PAIRS, "pushl", start)[-1], '
+        'len(moves(PAIRS, "popl", start_of(PAIRS, "popl")))]',
+        "[31, ('new', (0, 0), ('', (0, 0), 'm', 'e', True)), 30]",
+    ),
+    ('loose = PAIRS.without("page m inner 0.2 to 2.2 pass -1.0 then m")', None),
+    (
+        '[Table(loose, "pushl").is_good, Table(loose, "popl").is_good, is_final(loose, ("", (0, 0), "m", "", False))]',
+        "[True, False, True]",
+    ),
 )
 
 
 class Examples(unittest.TestCase):
     def test_answers_are_those_of_the_document(self):
-        names = {**vars(words), **vars(forms)}
+        names = {"PAIRS": PAIRS, "TIGHT": TIGHT}
+        for module in (words, forms, readers, pages, books, depth, rows, places, sequences, tables):
+            names.update(vars(module))
         for asked, answer in EXAMPLES:
             with self.subTest(asked=asked):
-                self.assertEqual(repr(eval(asked, dict(names))), answer)
+                if answer is None:
+                    exec(asked, names)
+                else:
+                    self.assertEqual(repr(eval(asked, names)), answer)
 
 
 if __name__ == "__main__":

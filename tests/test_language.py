@@ -1,4 +1,4 @@
-"""Rules of the language of the program that a test can see: L1, L2, L4, L7, L8, L10, L12, L14, L17, L27."""
+"""Rules of the language of the program that a test can see: L1, L2, L4 to L8, L10, L12, L14 to L17, L20, L25, L27."""
 
 import ast
 import builtins
@@ -12,9 +12,8 @@ PACKAGE = os.path.join(ROOT, "fingerbooks")
 LIBRARY = {
     "heapq": {"heappush", "heappop", "heapify", "heapreplace", "heappushpop"},
     "math": {"gcd", "lcm", "isqrt", "comb", "perm", "factorial"},
-    "itertools": {
-        "product", "combinations", "permutations", "chain", "accumulate", "pairwise", "islice", "zip_longest",
-    },
+    # Not product and its kin: books are iterated over and have a length.
+    "itertools": {"chain", "accumulate", "pairwise", "islice", "zip_longest"},
     "collections": {"defaultdict", "deque"},
     "__future__": {"annotations"},
 }
@@ -26,6 +25,11 @@ BUILTINS = set(
 )
 DECORATORS = {"property", "staticmethod", "classmethod"}
 DOUBLE = re.compile(r"^__")
+METHODS = set(
+    "__init__ __eq__ __repr__ __str__ __len__ __enter__ __exit__ __call__ __iter__ __bool__ __contains__ __getitem__".split()
+)
+PREFIXES = ("_wall", "_pe_", "_dcw_", "_enum_", "_cm_", "_twin_re_", "_lay_", "_law_", "_stub_", "_sre", "_WallAttr")
+BUILTIN_METHODS = {name for kind in (str, int, list, dict, set, bytes, tuple) for name in dir(kind)}
 BARRED = {
     "register", "mro", "elements", "open", "input", "law", "version_info", "with_traceback", "add_note", "typing",
     "enum", "Enum", "Generic", "Protocol", "ABC", "namedtuple", "NamedTuple", "TypedDict", "dataclass", "overload",
@@ -133,6 +137,94 @@ class Code(unittest.TestCase):
                 if node.func.id in ("any", "all", "min", "max", "sum", "sorted"):
                     for argument in node.args:
                         self.assertNotIsInstance(argument, ast.GeneratorExp, f"{path}:{node.lineno}")
+
+
+    def test_no_name_begins_with_a_barred_word(self):
+        for path, node in nodes():
+            for name in names_of(node):
+                self.assertFalse(name.startswith(PREFIXES), path)
+
+    def test_exponents_are_literals(self):
+        for path, node in nodes():
+            if isinstance(node, ast.BinOp) and isinstance(node.op, ast.Pow):
+                self.assertIsInstance(node.right, ast.Constant, f"{path}:{node.lineno}")
+
+    def test_only_none_true_and_false_are_compared_by_identity(self):
+        for path, node in nodes():
+            if isinstance(node, ast.Compare):
+                for sign, other in zip(node.ops, node.comparators):
+                    if isinstance(sign, (ast.Is, ast.IsNot)):
+                        self.assertIn(getattr(other, "value", 0), (None, True, False), f"{path}:{node.lineno}")
+
+    def test_lists_are_sorted_by_sorted(self):
+        # Classes of this package have an __eq__.
+        for path, node in nodes():
+            if isinstance(node, ast.Attribute):
+                self.assertNotIn(node.attr, ("sort", "format", "intersection", "union"), f"{path}:{node.lineno}")
+
+    def test_strings_have_no_percent_sign(self):
+        for path, node in nodes():
+            if isinstance(node, ast.Constant) and isinstance(node.value, str):
+                self.assertNotIn("%", node.value, f"{path}:{node.lineno}")
+
+    def test_files_do_not_import_from_each_other(self):
+        imports = {}
+        for path in files():
+            module = os.path.relpath(path, ROOT)[:-3].replace(os.sep, ".")
+            imports[module] = {
+                node.module for node in ast.walk(ast.parse(text_of(path)))
+                if isinstance(node, ast.ImportFrom) and node.module.startswith("fingerbooks.")
+            }
+        while imports:
+            free = [module for module, others in imports.items() if not others & set(imports)]
+            self.assertTrue(free, f"in a circle: {sorted(imports)}")
+            for module in free:
+                del imports[module]
+
+    def test_imported_names_and_classes_are_not_assigned(self):
+        for path in files():
+            tree = ast.parse(text_of(path))
+            fixed = {alias.name for node in tree.body if isinstance(node, ast.ImportFrom) for alias in node.names}
+            fixed |= {node.name for node in tree.body if isinstance(node, ast.ClassDef)}
+            for node in ast.walk(tree):
+                if isinstance(node, ast.Name) and isinstance(node.ctx, ast.Store):
+                    self.assertNotIn(node.id, fixed, f"{path}:{node.lineno}")
+                if isinstance(node, ast.arg):
+                    self.assertNotIn(node.arg, fixed | set(dir(builtins)), f"{path}:{node.lineno}")
+
+
+class Classes(unittest.TestCase):
+    def test_double_underscore_methods(self):
+        for path, node in nodes():
+            if isinstance(node, ast.ClassDef):
+                for method in node.body:
+                    if isinstance(method, ast.FunctionDef) and DOUBLE.match(method.name):
+                        self.assertIn(method.name, METHODS, path)
+
+    def test_what_can_be_indexed_says_whether_it_is_iterated_over(self):
+        for path, node in nodes():
+            if isinstance(node, ast.ClassDef):
+                names = {method.name for method in node.body if isinstance(method, ast.FunctionDef)}
+                self.assertTrue("__getitem__" not in names or "__iter__" in names, f"{path}: {node.name}")
+
+    def test_no_method_has_the_name_of_a_property_or_of_a_builtin_one(self):
+        properties, methods = set(), set()
+        for _, node in nodes():
+            if isinstance(node, ast.ClassDef):
+                for method in node.body:
+                    if isinstance(method, ast.FunctionDef):
+                        marks = {getattr(mark, "id", "") for mark in method.decorator_list}
+                        (properties if "property" in marks else methods).add(method.name)
+        self.assertEqual(properties & methods, set())
+        self.assertEqual((properties | methods) & BUILTIN_METHODS, {name for name in methods if DOUBLE.match(name)} & BUILTIN_METHODS)
+
+    def test_attributes_have_other_names_than_methods_of_their_class(self):
+        for path, node in nodes():
+            if isinstance(node, ast.ClassDef):
+                methods = {method.name for method in node.body if isinstance(method, ast.FunctionDef)}
+                for part in ast.walk(node):
+                    if isinstance(part, ast.Attribute) and isinstance(part.ctx, ast.Store):
+                        self.assertNotIn(part.attr, methods, f"{path}:{part.lineno}")
 
 
 def names_of(node):

@@ -1,6 +1,9 @@
 """Values of every kind that can be passed, for tests of what judges or refuses them."""
 
+from fingerbooks.decide.tables import Table
 from fingerbooks.errors import InvalidRow, ParseError, UnknownName
+from fingerbooks.seq.sequences import Sequence
+from tests.books import PAIRS
 
 
 def nested(depth, inner, wrap):
@@ -24,4 +27,6 @@ def odd_values():
         {}, {"a": "b"}, {1: 2}, {(1, 2): [3]}, {None: None}, {True: False},
         deep, nested(8, None, lambda value: [value]), nested(8, "a", lambda value: {"a": value}), mixed,
         InvalidRow("no row"), ParseError(None), UnknownName([1]), (InvalidRow("no row"),), [ParseError(3)],
+        PAIRS, PAIRS.reader, PAIRS.machine, PAIRS.machine.pages[0], Sequence(PAIRS, (1, 2, 3)), Table(PAIRS, "popl"),
+        (PAIRS, PAIRS.reader), [PAIRS.machine], {"s": PAIRS},
     ]

@@ -1,6 +1,6 @@
 """Pairs, forms and rows: their texts, their lengths and their levels."""
 
-from fingerbooks.base.words import integer_of, is_count, is_integer
+from fingerbooks.base.words import integer_of, is_count, is_integer, is_within
 from fingerbooks.errors import InvalidForm, InvalidNumber, InvalidRow, ParseError
 
 MAX_SIDE = 7
@@ -12,9 +12,14 @@ def is_pair(value):
     return isinstance(value, tuple) and len(value) == 2 and is_integer(value[0]) and is_integer(value[1])
 
 
+def is_pair_within(value, least, greatest):
+    """Whether the value is a pair of integers between two others."""
+    return is_pair(value) and least <= min(value) and max(value) <= greatest
+
+
 def is_form(value):
     """Whether the value is a pair of integers from 0 to 7."""
-    return is_pair(value) and 0 <= value[0] <= MAX_SIDE and 0 <= value[1] <= MAX_SIDE
+    return is_pair_within(value, 0, MAX_SIDE)
 
 
 def are_forms(value):
@@ -27,6 +32,12 @@ def is_row(value):
     return are_forms(value) and (value == () or value[-1] != (0, 0))
 
 
+def check_forms(forms):
+    """Refuse a value that is no tuple of at most 200 forms."""
+    if not are_forms(forms):
+        raise InvalidRow("this is no tuple of at most 200 forms")
+
+
 def check_row(row):
     """Refuse a value that is no row."""
     if not is_row(row):
@@ -35,7 +46,7 @@ def check_row(row):
 
 def check_arity(arity):
     """Refuse a value that is the arity of no book."""
-    if not is_integer(arity) or not 2 <= arity <= 3:
+    if not is_within(arity, 2, 3):
         raise InvalidNumber(arity)
 
 
@@ -48,12 +59,18 @@ def write_pair(pair):
 
 def read_pair(text):
     """The pair with a text."""
-    if not isinstance(text, str):
+    pair = pair_of(text) if isinstance(text, str) else None
+    if pair is None:
         raise ParseError(None)
+    return pair
+
+
+def pair_of(text):
+    """The pair with this text, None if the string is the text of none."""
     numbers = tuple([integer_of(part) for part in text.split(".")])
     # A part that is the text of no integer has become None, which no pair has.
     if not is_pair(numbers):
-        raise ParseError(None)
+        return None
     return numbers
 
 
@@ -79,8 +96,12 @@ def read_row(text):
 
 def trimmed(forms):
     """A tuple of forms without those (0, 0) at its inner end."""
-    if not are_forms(forms):
-        raise InvalidRow("this is no tuple of at most 200 forms")
+    check_forms(forms)
+    return without_empty_end(forms)
+
+
+def without_empty_end(forms):
+    """A tuple of any number of forms without those (0, 0) at its inner end."""
     levels = len(forms)
     while levels > 0 and forms[levels - 1] == (0, 0):
         levels -= 1
@@ -90,7 +111,12 @@ def trimmed(forms):
 def mirrored_row(row):
     """A row with the numbers of each form exchanged."""
     check_row(row)
-    return tuple([(right, left) for left, right in row])
+    return tuple([mirrored_pair(form) for form in row])
+
+
+def mirrored_pair(pair):
+    """A pair with its numbers exchanged."""
+    return pair[1], pair[0]
 
 
 def length_of(arity, row):

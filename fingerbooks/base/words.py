@@ -20,6 +20,11 @@ def is_count(value):
     return is_integer(value) and value >= 0
 
 
+def is_within(value, least, greatest):
+    """Whether the value is an integer between two others, which are not too small or too great themselves."""
+    return is_integer(value) and least <= value <= greatest
+
+
 def is_name(value):
     """Whether the value is a string of one to eight letters a to z."""
     if not isinstance(value, str) or not 1 <= len(value) <= MAX_LETTERS:
@@ -56,3 +61,8 @@ def integer_of(text):
     if figures[0] == "0" and text != "0":
         return None
     return int(text)
+
+
+def words_of(line):
+    """The parts of a line between its single blanks, () for a value that is no string."""
+    return tuple(line.split(" ")) if isinstance(line, str) else ()

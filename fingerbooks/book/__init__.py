@@ -1,0 +1,1 @@
+"""Books: readers with machines, which tell what deeds do with rows."""

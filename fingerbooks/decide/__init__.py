@@ -1,0 +1,1 @@
+"""What is decided about a book for right rows of any length."""

@@ -1,0 +1,1 @@
+"""Deeds that are done on rows."""

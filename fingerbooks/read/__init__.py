@@ -1,0 +1,1 @@
+"""Readers: which rows are right, and what lengths and depths right rows have."""

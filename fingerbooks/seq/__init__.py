@@ -1,0 +1,1 @@
+"""Places in rows, and sequences that have integers in these places."""
