@@ -22,11 +22,15 @@ SMALL = (
     "start popr c", PAGE, "page n last 4.0 to 2.2 pass 0.0 then m",
 )
 NO_LINES = (
-    "", " ", "arity", "arity 1", "arity 4", "arity 02", "arity 2 ", "arity  2", "arity -2", "arity two", "Arity 2", "arity 2.0",
-    "arity 2 3", "arity 2\n", "start", "start pushl", "start pushl ", "start pushl M", "start pushl m m", "start pushl  m",
-    "start push m", "start Pushl m", "start m pushl", "start pushl ninechars", "start pushl 1", "start popm m", "startpushl m",
+    "", " ", "arity", "arity 1", "arity 4", "arity 02", "arity 2 ", "arity  2", "arity -2", "arity two", "Arity 2",
+    "arity 2.0",
+    "arity 2 3", "arity 2\n", "start", "start pushl", "start pushl ", "start pushl M", "start pushl m m",
+    "start pushl  m",
+    "start push m", "start Pushl m", "start m pushl", "start pushl ninechars", "start pushl 1", "start popm m",
+    "startpushl m", "Start pushl m", "begin pushl m", "page pushl m",
     "first", "first S", "ends", "ends o e", "ends e e", "read s 8.1 o", "read s 1.1", "read s 1.1 o o", "page",
-    PAGE + " ", PAGE[:-2], PAGE.replace("2.1", "2.2"), PAGE.replace("inner", "new"), PAGE.replace("4.1", "10.1"), "x", "m", "pushl m",
+    PAGE + " ", PAGE[:-2], PAGE.replace("2.1", "2.2"), PAGE.replace("inner", "new"), PAGE.replace("4.1", "10.1"), "x",
+    "m", "pushl m",
     "book of arity 2, 3 states, 26 pages", "good popl", "\n".join(SMALL), SMALL[0] + " " + SMALL[1],
 )
 
@@ -44,7 +48,8 @@ class Interface(unittest.TestCase):
         for name in ("reader", "machine", "arity", "starts", "lines"):
             self.assertIsInstance(vars(Book)[name], property)
         for name in (
-            "from_lines", "is_right", "mirrored", "with_line", "without", "renamed", "__contains__", "__len__", "__iter__",
+            "from_lines", "is_right", "mirrored", "with_line", "without", "renamed", "__contains__", "__len__",
+            "__iter__",
             "__eq__", "__str__",
         ):
             self.assertIn(name, vars(Book))
@@ -75,8 +80,10 @@ class Making(unittest.TestCase):
         no_machines = [(value, InvalidPage) for value in (None, PAIRS, PAIRS.reader, PAIRS.machine.pages, 2, ())]
         no_starts = [(value, InvalidOperation) for value in (
             None, {}, DEEDS, "m", {deed: "m" for deed in DEEDS[:3]}, STARTS | {"push": "m"}, STARTS | {"popl": "M"},
-            STARTS | {"popr": None}, STARTS | {"pushl": ""}, STARTS | {"pushr": ("m",)}, STARTS | {"pushr": ["m"]}, ["m"] * 4,
-            {"pushl": "m", "pushr": "m", "popl": "m", "popm": "m"}, STARTS | {1: "m"}, (("pushl", "m"),), list(STARTS.items()),
+            STARTS | {"popr": None}, STARTS | {"pushl": ""}, STARTS | {"pushr": ("m",)}, STARTS | {"pushr": ["m"]},
+            ["m"] * 4,
+            {"pushl": "m", "pushr": "m", "popl": "m", "popm": "m"}, STARTS | {1: "m"}, (("pushl", "m"),),
+            list(STARTS.items()),
         )]
         check_first_error(
             self, Book, (PAIRS.reader, PAIRS.machine, STARTS), (no_readers, no_machines, no_starts),
@@ -91,7 +98,9 @@ class Making(unittest.TestCase):
                     check_raises(self, InvalidPage, lambda: Book(PAIRS.reader, value, STARTS))
                 check_raises(self, InvalidOperation, lambda: Book(PAIRS.reader, PAIRS.machine, value))
                 if value not in ("a", "abcdefgh"):
-                    check_raises(self, InvalidOperation, lambda: Book(PAIRS.reader, PAIRS.machine, STARTS | {"popl": value}))
+                    check_raises(
+                        self, InvalidOperation, lambda: Book(PAIRS.reader, PAIRS.machine, STARTS | {"popl": value}),
+                    )
 
 
 class Lines(unittest.TestCase):
@@ -193,7 +202,9 @@ class RightRows(unittest.TestCase):
     def test_as_the_reader_tells(self):
         for row in ((), ((1, 0),), ((1, 3), (0, 2)), ((3, 3),) * 199 + ((0, 1),), ((3, 3),) * 200):
             self.assertIs(PAIRS.is_right(row), True)
-        for value in (((0, 1), (1, 1)), ((4, 1),), ((1, 1), (0, 0)), ((3, 3),) * 201, [(1, 1)], "1.1", None, ((True, 1),)):
+        for value in (
+            ((0, 1), (1, 1)), ((4, 1),), ((1, 1), (0, 0)), ((3, 3),) * 201, [(1, 1)], "1.1", None, ((True, 1),),
+        ):
             self.assertIs(PAIRS.is_right(value), False)
         for value in odd_values():
             self.assertIs(PAIRS.is_right(value), value in ((), ((1, 2),)))
@@ -201,11 +212,14 @@ class RightRows(unittest.TestCase):
 
 class Changing(unittest.TestCase):
     def test_mirrored(self):
-        book = Book.from_lines(*SMALL[:3], "read s 1.2 o", "read o 3.0 e", *SMALL[5:9], PAGE, "page n last 4.0 to 3.1 pass 0.0 then m")
+        book = Book.from_lines(
+            *SMALL[:3], "read s 1.2 o", "read o 3.0 e", *SMALL[5:9], PAGE, "page n last 4.0 to 3.1 pass 0.0 then m",
+        )
         self.assertEqual(
             sorted(book.mirrored().lines),
             sorted([
-                *SMALL[:3], "read s 2.1 o", "read o 0.3 e", "start pushl b", "start pushr a", "start popl c", "start popr m",
+                *SMALL[:3], "read s 2.1 o", "read o 0.3 e", "start pushl b", "start pushr a", "start popl c",
+                "start popr m",
                 "page m inner 1.4 to 1.2 pass 0.1 then n", "page n last 0.4 to 1.3 pass 0.0 then m",
             ]),
         )
@@ -218,7 +232,8 @@ class Changing(unittest.TestCase):
     def test_with_a_line_in_the_place_of_another_one(self):
         book = Book.from_lines(*SMALL)
         for line, at in (
-            ("first t", 1), ("ends o", 2), ("read s 1.1 e", 4), ("read o 0.0 z", 3), ("start pushl z", 5), ("start popr z", 8),
+            ("first t", 1), ("ends o", 2), ("read s 1.1 e", 4), ("read o 0.0 z", 3), ("start pushl z", 5),
+            ("start popr z", 8),
             ("page m inner 4.1 to 4.1 pass 0.0 then m", 9), ("page n last 4.0 to 0.0 pass 1.1 then x", 10),
         ):
             changed = book.with_line(line)
@@ -230,7 +245,10 @@ class Changing(unittest.TestCase):
 
     def test_with_one_line_more(self):
         book = Book.from_lines(*SMALL)
-        for line in ("read s 1.2 o", "read x 1.1 e", "page n inner 4.1 to 2.1 pass 1.0 then n", "page m last 4.1 to 4.1 pass 0.0 then m"):
+        for line in (
+            "read s 1.2 o", "read x 1.1 e", "page n inner 4.1 to 2.1 pass 1.0 then n",
+            "page m last 4.1 to 4.1 pass 0.0 then m",
+        ):
             self.assertEqual(set(book.with_line(line).lines), set(SMALL) | {line})
         self.assertEqual(book.with_line("read a 1.1 o").lines[3], "read a 1.1 o")
 
@@ -256,7 +274,8 @@ class Changing(unittest.TestCase):
 
     def test_without_what_is_no_line(self):
         for value in odd_values() + list(NO_LINES) + [
-            "read s 4.4 o", "read s 1.1 e", "read x 1.1 o", PAGE, "page m inner 4.1 to 4.1 pass 0.0 then m", "first t", "arity 3",
+            "read s 4.4 o", "read s 1.1 e", "read x 1.1 o", PAGE, "page m inner 4.1 to 4.1 pass 0.0 then m",
+            "first t", "arity 3",
             PAIRS.lines, PAIRS.machine.pages[0], ("read s 1.1 o",), ["read s 1.1 o"], {"read s 1.1 o": 1},
         ]:
             with self.subTest(value=value):
@@ -272,7 +291,8 @@ class Changing(unittest.TestCase):
         notes = {"a": "m", "b": "pushl", "m": "a", "c": "x", "n": "n"}
         renamed = book.renamed(states, notes)
         self.assertEqual(renamed.lines, (
-            "arity 2", "first e", "ends b z", "read b 0.0 s", "read e 1.1 b", "start pushl m", "start pushr pushl", "start popl a",
+            "arity 2", "first e", "ends b z", "read b 0.0 s", "read e 1.1 b", "start pushl m", "start pushr pushl",
+            "start popl a",
             "start popr x", "page a inner 4.1 to 2.1 pass 1.0 then n", "page n last 4.0 to 2.2 pass 0.0 then a",
         ))
         self.assertEqual((book.lines, states["s"], notes["b"]), (SMALL, "e", "pushl"))
@@ -283,9 +303,14 @@ class Changing(unittest.TestCase):
     def test_renamed_by_what_is_no_renaming(self):
         no_states = [(value, InvalidOperation) for value in (
             {"s": "a", "e": "b"}, {"s": "a", "e": "b", "o": "c", "x": "d"}, {"s": "a", "e": "b", "o": "b"},
-            {"s": "A", "e": "b", "o": "c"}, {"s": 1, "e": "b", "o": "c"}, {}, None, ("a", "b", "c"), {"s": "a", "e": "b", "p": "c"},
+            {"s": "A", "e": "b", "o": "c"}, {"s": 1, "e": "b", "o": "c"}, {}, None, ("a", "b", "c"),
+            {"s": "a", "e": "b", "p": "c"},
         )]
-        no_notes = [(value, InvalidOperation) for value in ({}, {"n": "m"}, {"m": ""}, {"m": "m", "n": "n"}, None, "m", {"m": ["m"]})]
+        no_notes = [
+            (value, InvalidOperation) for value in (
+                {}, {"n": "m"}, {"m": ""}, {"m": "m", "n": "n"}, None, "m", {"m": ["m"]},
+            )
+        ]
         states = {"s": "s", "e": "e", "o": "o"}
         check_first_error(self, PAIRS.renamed, (states, {"m": "m"}), (no_states, no_notes))
         # Notes of pages and of starts alike.
@@ -313,7 +338,9 @@ class Holding(unittest.TestCase):
     def test_lines_are_in_it(self):
         for line in PAIRS.lines:
             self.assertIs(line in PAIRS, True)
-        for value in odd_values() + list(NO_LINES) + [PAIRS.lines, "arity 3", "read s 1.1 e", PAIRS.machine.pages[0], "start popl n"]:
+        for value in odd_values() + list(NO_LINES) + [
+            PAIRS.lines, "arity 3", "read s 1.1 e", PAIRS.machine.pages[0], "start popl n",
+        ]:
             self.assertIs(value in PAIRS, False)
 
     def test_iterating_yields_the_lines(self):
@@ -322,19 +349,26 @@ class Holding(unittest.TestCase):
         self.assertEqual([len(PAIRS), len(TIGHT), len(Book.from_lines(*SMALL))], [63, 41, 11])
 
     def test_equality(self):
-        for book, other in itertools.product((PAIRS, TIGHT, TRIPLES, LESS, wide(), plain(PAIRS.reader), plain(PAIRS.reader, 3)), repeat=2):
+        for book, other in itertools.product(
+            (PAIRS, TIGHT, TRIPLES, LESS, wide(), plain(PAIRS.reader), plain(PAIRS.reader, 3)), repeat=2,
+        ):
             self.assertIs(book == other, book is other or book.lines == other.lines)
             self.assertIs(book != other, not book == other)
         self.assertTrue(PAIRS == Book(PAIRS.reader, PAIRS.machine, dict(reversed(STARTS.items()))))
         self.assertFalse(PAIRS == PAIRS.with_line("start popr n"))
-        for value in [value for value in odd_values() if not isinstance(value, Book)] + [PAIRS.lines, list(PAIRS.lines)]:
+        for value in [
+            value for value in odd_values() if not isinstance(value, Book)
+        ] + [PAIRS.lines, list(PAIRS.lines)]:
             self.assertIs(PAIRS == value, False)
             self.assertIs(PAIRS != value, True)
 
     def test_str(self):
         self.assertEqual(
             [str(PAIRS), str(plain(PAIRS.reader, 3)), str(Book.from_lines(*SMALL))],
-            ["book of arity 2, 3 states, 26 pages", "book of arity 3, 3 states, 0 pages", "book of arity 2, 4 states, 2 pages"],
+            [
+                "book of arity 2, 3 states, 26 pages", "book of arity 3, 3 states, 0 pages",
+                "book of arity 2, 4 states, 2 pages",
+            ],
         )
 
 

@@ -7,7 +7,9 @@ from fingerbooks.book.books import DEEDS, Book
 from fingerbooks.deeds import rows
 from fingerbooks.deeds.rows import broken_at, is_done, lengths_along, new_row, row_after, steps, touched
 from fingerbooks.errors import Broken, EmptySequence, InvalidBook, InvalidOperation, InvalidRow
-from tests.books import FORMS, LESS, PAIRS, TIGHT, TRIPLES, changed_book, content_of, random_book, right_rows, size, wide
+from tests.books import (
+    FORMS, LESS, PAIRS, TIGHT, TRIPLES, changed_book, content_of, random_book, right_rows, size, wide,
+)
 from tests.bundles import deed_done, filled, order
 from tests.checks import check_first_error, check_raises
 from tests.values import odd_values
@@ -16,7 +18,8 @@ PAIR_OF = {"pushl": (1, 0), "pushr": (0, 1), "popl": (-1, 0), "popr": (0, -1)}
 ONE_ROW = (new_row, is_done, steps, broken_at, touched)
 NO_BOOKS = [(value, InvalidBook) for value in (None, PAIRS.reader, PAIRS.machine, PAIRS.lines, "book", 2)]
 NO_ROWS = [(value, InvalidRow) for value in (
-    ((0, 0),), ((0, 1), (1, 1)), ((4, 1),), [(1, 1)], None, "1.1", ((1, 1), (0, 0)), ((1, 1),) * 201, ((True, 1),), 0, PAIRS,
+    ((0, 0),), ((0, 1), (1, 1)), ((4, 1),), [(1, 1)], None, "1.1", ((1, 1), (0, 0)), ((1, 1),) * 201, ((True, 1),), 0,
+    PAIRS,
 )]
 NO_DEEDS = [(value, InvalidOperation) for value in (
     "", "push", "Pushl", "pushl ", None, 0, True, ("pushl",), ["popl"], {"popl": 1}, PAIRS, "left",
@@ -111,9 +114,16 @@ class OneDeed(unittest.TestCase):
             self.assertEqual(expected[0], 0)
 
     def test_of_the_document(self):
-        self.assertEqual([new_row(PAIRS, ((3, 3),), "pushl"), new_row(PAIRS, ((1, 1), (0, 1)), "popl")], [((2, 3), (1, 0)), ((2, 1),)])
-        self.assertEqual([touched(PAIRS, ((1, 1), (0, 1)), "popl"), touched(PAIRS, ((2, 1), (0, 1)), "pushl")], [(0, 1), (0,)])
-        self.assertEqual([new_row(LESS, ((1, 1), (0, 1)), "popl"), broken_at(LESS, ((1, 1), (0, 1)), "popl")], [None, 1])
+        self.assertEqual(
+            [new_row(PAIRS, ((3, 3),), "pushl"), new_row(PAIRS, ((1, 1), (0, 1)), "popl")],
+            [((2, 3), (1, 0)), ((2, 1),)],
+        )
+        self.assertEqual(
+            [touched(PAIRS, ((1, 1), (0, 1)), "popl"), touched(PAIRS, ((2, 1), (0, 1)), "pushl")], [(0, 1), (0,)],
+        )
+        self.assertEqual(
+            [new_row(LESS, ((1, 1), (0, 1)), "popl"), broken_at(LESS, ((1, 1), (0, 1)), "popl")], [None, 1],
+        )
         self.assertEqual(
             steps(LESS, ((1, 1), (0, 1)), "popl"), (("inner", (0, 1), ((2, 1), (-1, 0), "m")), ("last", (-1, 1), None)),
         )
@@ -150,9 +160,15 @@ class OneDeed(unittest.TestCase):
 
     def test_the_empty_row(self):
         self.assertEqual([new_row(PAIRS, (), deed) for deed in ("pushl", "pushr")], [((1, 0),), ((0, 1),)])
-        self.assertEqual([touched(PAIRS, (), "pushl"), broken_at(PAIRS, (), "pushr"), is_done(PAIRS, (), "pushl")], [(0,), None, True])
+        self.assertEqual(
+            [touched(PAIRS, (), "pushl"), broken_at(PAIRS, (), "pushr"), is_done(PAIRS, (), "pushl")],
+            [(0,), None, True],
+        )
         self.assertEqual(steps(PAIRS, (), "pushr"), (("last", (0, 1), ((0, 1), (0, 0), "m")),))
-        self.assertEqual([new_row(PAIRS, ((1, 0),), "popl"), is_done(PAIRS, ((0, 1),), "popl"), new_row(PAIRS, ((1, 0),), "popr")], [(), True, ()])
+        self.assertEqual(
+            [new_row(PAIRS, ((1, 0),), "popl"), is_done(PAIRS, ((0, 1),), "popl"), new_row(PAIRS, ((1, 0),), "popr")],
+            [(), True, ()],
+        )
         for function in ONE_ROW:
             for deed in ("popl", "popr"):
                 check_raises(self, EmptySequence, lambda: function(PAIRS, (), deed), deed)
@@ -161,9 +177,18 @@ class OneDeed(unittest.TestCase):
         row = ((3, 3),) * 199 + ((2, 2),)
         self.assertEqual(new_row(PAIRS, row, "pushl"), ((2, 3),) * 199 + ((3, 2),))
         self.assertEqual(touched(PAIRS, row, "pushr"), tuple(range(200)))
+        # One level more is as right as any.
+        row = ((3, 3),) * 200
+        self.assertEqual(
+            [new_row(PAIRS, row, "pushl"), is_done(PAIRS, row, "pushl")], [((2, 3),) * 200 + ((1, 0),), True],
+        )
+        self.assertEqual(lengths_along(PAIRS, row, ("pushl", "popl", "popr"))[1:3], (size(2, row) + 1, size(2, row)))
         row = ((1, 1),) * 199 + ((0, 1),)
         self.assertEqual(new_row(PAIRS, row, "popl"), ((2, 1),) * 199)
-        self.assertEqual([len(touched(PAIRS, row, "popl")), len(steps(PAIRS, row, "popr")), is_done(PAIRS, row, "popl")], [200, 200, True])
+        self.assertEqual(
+            [len(touched(PAIRS, row, "popl")), len(steps(PAIRS, row, "popr")), is_done(PAIRS, row, "popl")],
+            [200, 200, True],
+        )
         self.assertEqual([broken_at(LESS, row, "popl"), len(touched(LESS, row, "popl"))], [199, 200])
 
     def test_wrong_values(self):
@@ -242,7 +267,8 @@ class ManyDeeds(unittest.TestCase):
 
     def test_wrong_values(self):
         no_deeds = [(value, InvalidOperation) for value in (
-            "pushl", None, ["pushl"], ("pushl", "push"), ("pushl", None), (("pushl",),), ("pushl",) * 1001, {"pushl": 1}, 1, ("popl", ["popl"]),
+            "pushl", None, ["pushl"], ("pushl", "push"), ("pushl", None), (("pushl",),), ("pushl",) * 1001,
+            {"pushl": 1}, 1, ("popl", ["popl"]),
         )]
         for function in (row_after, lengths_along):
             check_first_error(self, function, (PAIRS, ((1, 1),), ("popl",)), (NO_BOOKS[:3], NO_ROWS[:4], no_deeds))

@@ -17,7 +17,9 @@ LOOSE = PAIRS.with_line("read s 0.1 o").with_line("read o 0.1 o")
 ONLY_EMPTY = plain(Reader("s", ("e",), {("s", (1, 1)): "o", ("o", (1, 1)): "o"}))
 RIGHT_ONLY = plain(Reader("s", ("e",), {("s", (0, 1)): "o", ("o", (0, 2)): "o", ("o", (0, 1)): "e"}))
 NO_BOOKS = [(value, InvalidBook) for value in (None, PAIRS.reader, PAIRS.lines, 2, "book", PAIRS.machine, [PAIRS])]
-NO_SIDES = [(value, InvalidOperation) for value in ("", "Left", "up", "left ", None, 0, True, ("left",), ["left"], {"left": 1})]
+NO_SIDES = [
+    (value, InvalidOperation) for value in ("", "Left", "up", "left ", None, 0, True, ("left",), ["left"], {"left": 1})
+]
 
 
 def excesses(arity, row, side):
@@ -85,7 +87,11 @@ class LengthsForLevels(unittest.TestCase):
             self.assertEqual(found is not None, levels % 3 == 0)
 
     def test_wrong_values(self):
-        no_levels = [(value, InvalidNumber) for value in (-1, 201, 10 ** 60, -5, True, False, None, "1", (1,), [0], 10 ** 59, PAIRS)]
+        no_levels = [
+            (value, InvalidNumber) for value in (
+                -1, 201, 10 ** 60, -5, True, False, None, "1", (1,), [0], 10 ** 59, PAIRS,
+            )
+        ]
         for function in (least_length, most_length):
             check_first_error(self, function, (PAIRS, 3), (NO_BOOKS, no_levels))
             for value in odd_values():
@@ -125,11 +131,14 @@ class MissingLengths(unittest.TestCase):
 
     def test_one_row_of_each_length(self):
         figures = plain(Reader.from_lines(
-            "first s", "ends e", "read s 0.0 a", "read s 0.1 a", "read s 1.0 e", "read a 0.0 a", "read a 0.1 a", "read a 1.0 e",
+            "first s", "ends e", "read s 0.0 a", "read s 0.1 a", "read s 1.0 e", "read a 0.0 a", "read a 0.1 a",
+            "read a 1.0 e",
         ))
         self.assertIsNone(missing_length(figures))
         self.assertEqual(missing_length(figures.with_line("arity 3")), 2)
-        three = figures.with_line("arity 3").with_line("read s 0.2 a").with_line("read a 0.2 a").with_line("read s 2.0 e")
+        three = figures.with_line("arity 3").with_line(
+            "read s 0.2 a",
+        ).with_line("read a 0.2 a").with_line("read s 2.0 e")
         self.assertEqual(missing_length(three), 6)
         self.assertIsNone(missing_length(three.with_line("read a 2.0 e")))
 
@@ -187,7 +196,9 @@ class Depths(unittest.TestCase):
         unbounded, deeper, deepest = 0, 0, 0
         for seed in range(300):
             rng = random.Random(seed)
-            forms = (((0, 1), (1, 0), (0, 0), (2, 0)), ((0, 1), (1, 1), (3, 0)), ((0, 1), (7, 1), (0, 0), (1, 0)))[seed % 3]
+            forms = (
+                ((0, 1), (1, 0), (0, 0), (2, 0)), ((0, 1), (1, 1), (3, 0)), ((0, 1), (7, 1), (0, 0), (1, 0)),
+            )[seed % 3]
             reader = random_reader(rng, "sabcd"[:2 + seed % 4], forms, rng.choice((0.3, 0.5, 0.8)))
             arity, at = rng.choice((2, 3)), rng.randint(0, 1)
             levels = 6
@@ -224,7 +235,9 @@ class Depths(unittest.TestCase):
         self.assertEqual(deepest, 7)
 
     def test_of_the_document(self):
-        self.assertEqual([depth_bound(PAIRS, "left"), deep_row(PAIRS, "left", 0), deep_row(PAIRS, "left", 1)], [0, ((1, 0),), None])
+        self.assertEqual(
+            [depth_bound(PAIRS, "left"), deep_row(PAIRS, "left", 0), deep_row(PAIRS, "left", 1)], [0, ((1, 0),), None],
+        )
         self.assertEqual([depth_bound(LOOSE, "left"), depth_bound(LOOSE, "right")], [None, 0])
         self.assertEqual(size(2, deep_row(LOOSE, "left", 2)), 7)
 
@@ -243,7 +256,10 @@ class Depths(unittest.TestCase):
             book = chain(((0, 0), (0, 0), (0, 0), (0, 0), (1, 0)), arity)
             self.assertEqual([depth_bound(book, "left"), depth_bound(book.mirrored(), "right")], [4, 4])
             # With six states, five of them behind the first one.
-            reads = {("s", (0, 1)): "a", ("a", (0, 1)): "b", ("b", (0, 1)): "c", ("c", (0, 1)): "d", ("d", (0, 1)): "e", ("e", (1, 1)): "a"}
+            reads = {
+                ("s", (0, 1)): "a", ("a", (0, 1)): "b", ("b", (0, 1)): "c", ("c", (0, 1)): "d", ("d", (0, 1)): "e",
+                ("e", (1, 1)): "a",
+            }
             book = plain(Reader("s", ("a",), reads), arity)
             self.assertEqual([depth_bound(book, "left"), depth_bound(book.mirrored(), "right")], [5, 5])
             row = ((0, 1),) * 5 + ((1, 1),)
@@ -252,7 +268,8 @@ class Depths(unittest.TestCase):
     def test_just_at_the_border(self):
         # With one element ahead, and one, the number has two figures for arity 2, and one for arity 3.
         for forms, arity, bound in (
-            (((1, 1), (1, 1)), 2, 0), (((1, 1), (1, 1)), 3, 1), (((2, 1), (1, 1)), 3, 0), (((0, 1), (1, 0), (1, 0)), 2, 1),
+            (((1, 1), (1, 1)), 2, 0), (((1, 1), (1, 1)), 3, 1), (((2, 1), (1, 1)), 3, 0),
+            (((0, 1), (1, 0), (1, 0)), 2, 1),
             (((0, 1), (0, 1), (7, 0), (0, 0), (1, 0)), 2, 2), (((0, 1), (0, 1), (1, 0), (0, 0), (1, 0)), 2, 2),
             (((1, 0), (0, 1), (0, 1), (1, 0)), 2, 2), (((2, 0), (0, 1), (0, 1), (1, 0)), 2, 2),
             (((3, 0), (0, 1), (0, 1), (1, 0)), 2, 1), (((1, 0), (1, 0), (0, 1), (1, 0)), 2, 1),
@@ -268,7 +285,11 @@ class Depths(unittest.TestCase):
 
     def test_excesses_0_and_100(self):
         for arity in (2, 3):
-            book = plain(Reader.from_lines("first s", "ends e", "read s 0.0 a", "read a 0.0 a", "read a 1.0 e", "read s 1.0 e"), arity)
+            book = plain(
+                Reader.from_lines(
+                    "first s", "ends e", "read s 0.0 a", "read a 0.0 a", "read a 1.0 e", "read s 1.0 e",
+                ), arity,
+            )
             self.assertIsNone(depth_bound(book, "left"))
             for more in (0, 1, 2, 50, 99, 100):
                 self.assertEqual(deep_row(book, "left", more), ((0, 0),) * more + ((1, 0),))
@@ -287,7 +308,9 @@ class Depths(unittest.TestCase):
             self.assertIsNone(depth_bound(book, "left"))
 
     def test_wrong_values(self):
-        no_numbers = [(value, InvalidNumber) for value in (-1, 101, True, False, None, "1", (1,), [1], 10 ** 59, 10 ** 60, PAIRS)]
+        no_numbers = [
+            (value, InvalidNumber) for value in (-1, 101, True, False, None, "1", (1,), [1], 10 ** 59, 10 ** 60, PAIRS)
+        ]
         check_first_error(self, depth_bound, (PAIRS, "left"), (NO_BOOKS, NO_SIDES))
         check_first_error(self, deep_row, (PAIRS, "right", 1), (NO_BOOKS[:4], NO_SIDES[:4], no_numbers))
         for value in odd_values():

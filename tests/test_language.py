@@ -25,9 +25,10 @@ BUILTINS = set(
 )
 DECORATORS = {"property", "staticmethod", "classmethod"}
 DOUBLE = re.compile(r"^__")
-METHODS = set(
-    "__init__ __eq__ __repr__ __str__ __len__ __enter__ __exit__ __call__ __iter__ __bool__ __contains__ __getitem__".split()
-)
+METHODS = {
+    "__init__", "__eq__", "__repr__", "__str__", "__len__", "__enter__", "__exit__", "__call__", "__iter__", "__bool__",
+    "__contains__", "__getitem__",
+}
 PREFIXES = ("_wall", "_pe_", "_dcw_", "_enum_", "_cm_", "_twin_re_", "_lay_", "_law_", "_stub_", "_sre", "_WallAttr")
 BUILTIN_METHODS = {name for kind in (str, int, list, dict, set, bytes, tuple) for name in dir(kind)}
 BARRED = {
@@ -207,7 +208,7 @@ class Classes(unittest.TestCase):
                 names = {method.name for method in node.body if isinstance(method, ast.FunctionDef)}
                 self.assertTrue("__getitem__" not in names or "__iter__" in names, f"{path}: {node.name}")
 
-    def test_no_method_has_the_name_of_a_property_or_of_a_builtin_one(self):
+    def test_properties_methods_and_builtin_methods_have_different_names(self):
         properties, methods = set(), set()
         for _, node in nodes():
             if isinstance(node, ast.ClassDef):
@@ -215,8 +216,13 @@ class Classes(unittest.TestCase):
                     if isinstance(method, ast.FunctionDef):
                         marks = {getattr(mark, "id", "") for mark in method.decorator_list}
                         (properties if "property" in marks else methods).add(method.name)
-        self.assertEqual(properties & methods, set())
-        self.assertEqual((properties | methods) & BUILTIN_METHODS, {name for name in methods if DOUBLE.match(name)} & BUILTIN_METHODS)
+        stored = {
+            node.attr for _, node in nodes() if isinstance(node, ast.Attribute) and isinstance(node.ctx, ast.Store)
+        }
+        self.assertEqual(properties & (methods | stored), set())
+        self.assertEqual(
+            (properties | methods) & BUILTIN_METHODS, {name for name in methods if DOUBLE.match(name)} & BUILTIN_METHODS
+        )
 
     def test_attributes_have_other_names_than_methods_of_their_class(self):
         for path, node in nodes():

@@ -176,14 +176,20 @@ class LinesOfPages(unittest.TestCase):
     def test_no_lines(self):
         for line in (
             "", "page", LINE + " ", " " + LINE, LINE + "\n", LINE + " x", LINE[:-2], LINE.replace("page", "Page"),
-            LINE.replace(" m ", "  m "), LINE.replace(" m ", " "), LINE.replace("inner", "outer"), LINE.replace("inner", "new"),
-            LINE.replace("to", "into"), LINE.replace("pass", "past"), LINE.replace("then", "than"), LINE.replace("m", "M"),
-            LINE.replace("4.1", "04.1"), LINE.replace("4.1", "4"), LINE.replace("4.1", "(4, 1)"), LINE.replace("1.0", "-1.0"),
-            LINE.replace("1.0", "1.-0"), LINE.replace("2.1", "2.2"), LINE.replace("4.1", "5.2"), LINE.replace("then n", "then 1"),
-            LINE.replace("then n", "then ninechars"), LINE.replace("2.1", "8.1").replace("4.1", "10.1"), LINE.replace(" ", "\t"),
+            LINE.replace(" m ", "  m "), LINE.replace(" m ", " "), LINE.replace("inner", "outer"),
+            LINE.replace("inner", "new"),
+            LINE.replace("to", "into"), LINE.replace("pass", "past"), LINE.replace("then", "than"),
+            LINE.replace("m", "M"),
+            LINE.replace("4.1", "04.1"), LINE.replace("4.1", "4"), LINE.replace("4.1", "(4, 1)"),
+            LINE.replace("1.0", "-1.0"),
+            LINE.replace("1.0", "1.-0"), LINE.replace("2.1", "2.2"), LINE.replace("4.1", "5.2"),
+            LINE.replace("then n", "then 1"),
+            LINE.replace("then n", "then ninechars"), LINE.replace("2.1", "8.1").replace("4.1", "10.1"),
+            LINE.replace(" ", "\t"),
             "page m last 4.1 to 6.1 pass -1.0 then m", "page m last 4.1 to 2.2 pass 1.0 then m",
             "page m inner 10.1 to 6.1 pass 2.0 then m", "page m inner -3.1 to 1.1 pass -2.0 then m",
-            "page m inner 9.1 to 3.1 pass 3.0 then m", "page m last 4.1 to 4.1 pass 0.0 to m", "first s", "read s 1.1 o",
+            "page m inner 9.1 to 3.1 pass 3.0 then m", "page m last 4.1 to 4.1 pass 0.0 to m", "first s",
+            "read s 1.1 o",
             " ".join(LINE.split()[::-1]), LINE + " " + LINE,
         ):
             with self.subTest(line=line):
@@ -236,9 +242,12 @@ class Machines(unittest.TestCase):
         check_raises(self, InvalidPage, lambda: Machine(2, (three,)))
 
     def test_wrong_values(self):
-        no_arities = [(value, InvalidNumber) for value in (1, 4, 0, -2, True, None, "2", (2,), [2], 10 ** 60 + 2, PAIRS)]
+        no_arities = [
+            (value, InvalidNumber) for value in (1, 4, 0, -2, True, None, "2", (2,), [2], 10 ** 60 + 2, PAIRS)
+        ]
         no_pages = [(value, InvalidPage) for value in (
-            None, [PAGE], PAGE, LINE, (LINE,), (PAGE, None), (PAGE, LINE), {0: PAGE}, (PAGE.place,), ((PAGE,),), (PAGE, PAGE), 1,
+            None, [PAGE], PAGE, LINE, (LINE,), (PAGE, None), (PAGE, LINE), {0: PAGE}, (PAGE.place,), ((PAGE,),),
+            (PAGE, PAGE), 1,
             PAIRS.machine,
         )]
         check_first_error(self, Machine, (2, (PAGE,)), (no_arities, no_pages))
@@ -263,7 +272,8 @@ class Machines(unittest.TestCase):
             self.assertIs(page in machine, True)
         for value in (
             PAGE, Page("m", "inner", (4, 1), (4, 1), (0, 0), "m"), Page("m", "inner", (5, 1), (3, 1), (1, 0), "m"),
-            ("m", "inner", (3, 1)), ("n", "inner", (4, 1)), ("m", "last", (0, 1)), ("m", "inner"), ("m", "inner", (4, 1), 0),
+            ("m", "inner", (3, 1)), ("n", "inner", (4, 1)), ("m", "last", (0, 1)), ("m", "inner"),
+            ("m", "inner", (4, 1), 0),
             ["m", "inner", (4, 1)], ("m", "inner", [4, 1]), (["m"], "inner", (4, 1)), ("m", ["inner"], (4, 1)),
             ("m", "inner", (4, True)), ("m", "inner", (True, 4)), ("m", "inner", (0, True)), ("m", "last", (False, 4)),
             PAIRS.machine.pages[0].line, 0, 1, -1, None, True, (), machine, slice(0, 1),
@@ -277,7 +287,9 @@ class Machines(unittest.TestCase):
     def test_values_of_every_kind_are_looked_up(self):
         machine = Machine(2, (PAGE, OTHER))
         for value in odd_values():
-            for looked_up in (value, ("m", "inner", value), ("m", value, (4, 1)), (value, "inner", (4, 1)), (value, value, value)):
+            for looked_up in (
+                value, ("m", "inner", value), ("m", value, (4, 1)), (value, "inner", (4, 1)), (value, value, value),
+            ):
                 self.assertIs(looked_up in machine, False)
                 with self.assertRaises(UnknownName) as caught:
                     machine[looked_up]
@@ -295,7 +307,9 @@ class Machines(unittest.TestCase):
         machine = Machine(2, (PAGE, OTHER))
         self.assertTrue(machine == Machine(2, (OTHER, PAGE)))
         self.assertFalse(machine != Machine(2, (OTHER, PAGE)))
-        self.assertEqual([str(machine), str(Machine(3, ()))], ["machine of arity 2 with 2 pages", "machine of arity 3 with 0 pages"])
+        self.assertEqual(
+            [str(machine), str(Machine(3, ()))], ["machine of arity 2 with 2 pages", "machine of arity 3 with 0 pages"],
+        )
         self.assertEqual([len(machine), len(Machine(3, ())), len(PAIRS.machine)], [2, 0, 26])
         self.assertIs(Machine(2, ()) == Machine(3, ()), False)
         self.assertIs(machine == Machine(2, (PAGE,)), False)
@@ -321,7 +335,9 @@ class Steps(unittest.TestCase):
     def test_wrong_values(self):
         wrong = [[(value, InvalidOperation) for value in values] for values in (NO_NAMES, NO_WHERES, NO_RAWS)]
         for at, right in enumerate((("m",), ("inner",), ((4, 1),))):
-            values = [("m", "inner", (4, 1))[:at] + (value,) + ("m", "inner", (4, 1))[at + 1:] for value, _ in wrong[at]]
+            values = [
+                ("m", "inner", (4, 1))[:at] + (value,) + ("m", "inner", (4, 1))[at + 1:] for value, _ in wrong[at]
+            ]
             for arguments in values:
                 with self.subTest(arguments=arguments):
                     check_raises(self, InvalidOperation, lambda: PAIRS.machine.step(*arguments))
@@ -392,13 +408,17 @@ class Runs(unittest.TestCase):
         self.assertEqual(crossing.run("m", (-2, 2), ())[0], ())
 
     def test_goes_on_if_nothing_comes_to_a_level(self):
-        tidy = Machine(2, (Page("m", "inner", (7, 0), (3, 0), (2, 0), "n"), Page("n", "last", (2, 7), (2, 3), (0, 2), "m")))
+        tidy = Machine(
+            2, (Page("m", "inner", (7, 0), (3, 0), (2, 0), "n"), Page("n", "last", (2, 7), (2, 3), (0, 2), "m")),
+        )
         new, steps = tidy.run("m", (0, 0), ((1, 1), (7, 0), (0, 7)))
         self.assertEqual(new, ((1, 1), (3, 0), (2, 3), (0, 2)))
         self.assertEqual([step[0] for step in steps], ["inner", "inner", "last", "last"])
 
     def test_levels_of_nothing_are_cut_off_inside_only(self):
-        take = Machine(2, (Page("m", "last", (-1, 1), (0, 0), (0, 0), "m"), Page("m", "inner", (-1, 1), (1, 1), (-1, 0), "m")))
+        take = Machine(
+            2, (Page("m", "last", (-1, 1), (0, 0), (0, 0), "m"), Page("m", "inner", (-1, 1), (1, 1), (-1, 0), "m")),
+        )
         self.assertEqual(take.run("m", (-1, 0), ((0, 0), (0, 1)))[0], None)
         self.assertEqual(take.run("m", (-1, 0), ((0, 1), (0, 1)))[0], ((1, 1),))
         self.assertEqual(take.run("m", (-1, 0), ((1, 0), (0, 0), (0, 1)))[0], ((0, 0), (0, 0), (0, 1)))
@@ -426,7 +446,9 @@ class Runs(unittest.TestCase):
     def test_wrong_values(self):
         no_notes = [(value, InvalidOperation) for value in NO_NAMES]
         no_pairs = [(value, InvalidOperation) for value in NO_PASSES]
-        no_rows = [(value, InvalidRow) for value in (((0, 0),), ((8, 0),), [(1, 1)], None, "1.1", ((1, 1),) * 201, PAIRS)]
+        no_rows = [
+            (value, InvalidRow) for value in (((0, 0),), ((8, 0),), [(1, 1)], None, "1.1", ((1, 1),) * 201, PAIRS)
+        ]
         check_first_error(self, PAIRS.machine.run, ("m", (1, 0), ((1, 1),)), (no_notes[:4], no_pairs[:4], no_rows))
         for value, error in no_notes:
             check_raises(self, error, lambda: PAIRS.machine.run(value, (1, 0), ((1, 1),)))

@@ -12,22 +12,35 @@ from fingerbooks.errors import (
 from fingerbooks.seq import places
 from fingerbooks.seq.places import beside, is_place, number_of, outward, place_behind, place_of, spans, staying
 from tests import bundles
-from tests.books import FORMS, LESS, PAIRS, TIGHT, TRIPLES, changed_book, content_of, random_book, right_rows, size, wide
+from tests.books import (
+    FORMS, LESS, PAIRS, TIGHT, TRIPLES, changed_book, content_of, random_book, right_rows, size, wide,
+)
 from tests.checks import check_first_error, check_raises
 from tests.values import odd_values
 
 ROW = ((1, 1), (1, 0), (0, 1))
 PLACE = (1, "left", 0, (1,))
 NO_ARITIES = [(value, InvalidNumber) for value in (1, 4, True, None, "2", (2,), [2], 10 ** 60 + 2, -2, PAIRS)]
-NO_ROWS = [(value, InvalidRow) for value in (((0, 0),), ((8, 0),), [(1, 1)], None, "1.1", ((1, 1), (0, 0)), ((1, 1),) * 201, PAIRS)]
+NO_ROWS = [
+    (value, InvalidRow) for value in (
+        ((0, 0),), ((8, 0),), [(1, 1)], None, "1.1", ((1, 1), (0, 0)), ((1, 1),) * 201, PAIRS,
+    )
+]
 NO_PLACES = (
-    None, 0, "0", (), (0, "left", 0), (0, "left", 0, (), 0), [0, "left", 0, ()], (0, "left", 1, ()), (0, "left", -1, ()),
-    (-1, "left", 0, ()), (3, "right", 0, (0, 0, 0)), (0, "Left", 0, ()), (0, "inner", 0, ()), (0, None, 0, ()), (0, 0, 0, ()),
-    (0, ["left"], 0, ()), (0, "left", 0, []), (0, "left", 0, (0,)), (0, "left", 0, None), (1, "left", 0, ()), (1, "left", 0, (2,)),
-    (1, "left", 0, (-1,)), (1, "left", 0, (0, 0)), (1, "right", 0, (0,)), (2, "left", 0, (0, 0)), (2, "right", 0, (0, 2)),
-    (2, "right", 0, (2, 0)), (2, "right", 1, (0, 0)), (2, "right", 0, (0,)), (2, "right", 0, [0, 0]), (2, "right", 0, (0, None)),
-    (True, "left", 0, (0,)), (False, "left", 0, ()), (0, "left", False, ()), (1, "left", False, (0,)), (1, "left", 0, (True,)),
-    (1, "left", 0, (False,)), (0, "left", None, ()), (0, "left", 10 ** 60, ()), (10 ** 60, "left", 0, ()), ("left", 0, 0, ()), PAIRS,
+    None, 0, "0", (), (0, "left", 0), (0, "left", 0, (), 0), [0, "left", 0, ()], (0, "left", 1, ()),
+    (0, "left", -1, ()),
+    (-1, "left", 0, ()), (3, "right", 0, (0, 0, 0)), (0, "Left", 0, ()), (0, "inner", 0, ()), (0, None, 0, ()),
+    (0, 0, 0, ()),
+    (0, ["left"], 0, ()), (0, "left", 0, []), (0, "left", 0, (0,)), (0, "left", 0, None), (1, "left", 0, ()),
+    (1, "left", 0, (2,)),
+    (1, "left", 0, (-1,)), (1, "left", 0, (0, 0)), (1, "right", 0, (0,)), (2, "left", 0, (0, 0)),
+    (2, "right", 0, (0, 2)),
+    (2, "right", 0, (2, 0)), (2, "right", 1, (0, 0)), (2, "right", 0, (0,)), (2, "right", 0, [0, 0]),
+    (2, "right", 0, (0, None)),
+    (True, "left", 0, (0,)), (False, "left", 0, ()), (0, "left", False, ()), (1, "left", False, (0,)),
+    (1, "left", 0, (True,)),
+    (1, "left", 0, (False,)), (0, "left", None, ()), (0, "left", 10 ** 60, ()), (10 ** 60, "left", 0, ()),
+    ("left", 0, 0, ()), PAIRS,
 )
 
 
@@ -106,7 +119,10 @@ class Places(unittest.TestCase):
         place = (199, "right", 0, (2,) * 199)
         self.assertIs(is_place(3, row, place), True)
         self.assertEqual(number_of(3, row, place), (3 ** 200 - 1) // 2 + 3 ** 199 - 1)
-        self.assertEqual(spans(2, row)[199:201], ((199, "left", 2 ** 199 - 1, 2 ** 200 - 1), (199, "right", 2 ** 200 - 1, 2 ** 200 - 1 + 2 ** 199)))
+        self.assertEqual(
+            spans(2, row)[199:201],
+            ((199, "left", 2 ** 199 - 1, 2 ** 200 - 1), (199, "right", 2 ** 200 - 1, 2 ** 200 - 1 + 2 ** 199)),
+        )
         # A number that is passed has at most sixty digits.
         check_raises(self, InvalidNumber, lambda: place_of(3, row, 10 ** 60), 10 ** 60)
         self.assertEqual(place_of(3, row, 10 ** 60 - 1)[:3], (126, "left", 0))
@@ -117,7 +133,10 @@ class Places(unittest.TestCase):
     def test_wrong_numbers(self):
         for function in (place_of, outward):
             for row in ((), ((1, 0),), ROW):
-                for number in (-1, size(2, row), size(2, row) + 1, 10 ** 59, 10 ** 60, True, False, None, "0", (0,), [0], {}, PAIRS):
+                for number in (
+                    -1, size(2, row), size(2, row) + 1, 10 ** 59, 10 ** 60, True, False, None, "0", (0,), [0], {},
+                    PAIRS,
+                ):
                     check_raises(self, InvalidNumber, lambda: function(2, row, number), number)
 
     def test_wrong_places(self):
@@ -223,7 +242,9 @@ class Deeds(unittest.TestCase):
 
     def test_of_the_document(self):
         row = ((3, 1), (1, 1))
-        self.assertEqual([place_behind(PAIRS, row, "pushl", 2), staying(PAIRS, row, "pushl")], [(1, "left", 0, (1,)), 3])
+        self.assertEqual(
+            [place_behind(PAIRS, row, "pushl", 2), staying(PAIRS, row, "pushl")], [(1, "left", 0, (1,)), 3],
+        )
         self.assertIsNone(place_behind(PAIRS, ((1, 1),), "popl", 0))
 
     def test_the_first_and_the_last_element(self):
@@ -232,7 +253,9 @@ class Deeds(unittest.TestCase):
             self.assertIsNone(place_behind(PAIRS, row, "popl", 0))
             self.assertIsNone(place_behind(PAIRS, row, "popr", many - 1))
             self.assertIsNotNone(place_behind(PAIRS, row, "pushl", many - 1))
-            for deed, number, behind in (("pushl", 0, 1), ("pushr", many - 1, many - 1), ("popr", 0, 0), ("popl", many - 1, many - 2)):
+            for deed, number, behind in (
+                ("pushl", 0, 1), ("pushr", many - 1, many - 1), ("popr", 0, 0), ("popl", many - 1, many - 2),
+            ):
                 if many > 1 or deed.startswith("push"):
                     new = new_row(PAIRS, row, deed)
                     self.assertEqual(place_behind(PAIRS, row, deed, number), place_of(2, new, behind))
@@ -243,6 +266,9 @@ class Deeds(unittest.TestCase):
         self.assertEqual(staying(PAIRS, row, "pushl"), 3 * (2 ** 199 - 1) + 2 * 2 ** 199)
         self.assertEqual(staying(PAIRS, row, "popr"), many - 1)
         self.assertEqual(place_behind(PAIRS, row, "popr", 10 ** 59), place_of(2, row, 10 ** 59))
+        row = ((3, 3),) * 200
+        self.assertEqual(place_behind(PAIRS, row, "pushl", 3), (1, "left", 1, (0,)))
+        self.assertEqual(staying(PAIRS, row, "pushr"), 3 * (2 ** 200 - 1))
         self.assertEqual(staying(PAIRS, ((2, 2),) * 200, "pushr"), 4 * (2 ** 200 - 1))
 
     def test_elements_of_a_row_that_a_deed_makes_wrong(self):

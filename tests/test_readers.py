@@ -15,7 +15,9 @@ from tests.values import odd_values
 LINES = ("first s", "ends e o", "read o 0.0 x", "read s 1.1 o", "read s 2.1 e")
 SIX = {("s", (1, 0)): "a", ("a", (1, 0)): "b", ("b", (1, 0)): "c", ("c", (1, 0)): "d", ("d", (1, 0)): "e"}
 NO_NAMES = ("", "S", "ninechars", "s ", "1", 1, True, None, ("s",), ["s"], {"s": 1}, 10 ** 60, PAIRS)
-NO_FORMS = ((8, 0), (0, 8), (-1, 0), (True, 0), (0, False), (1,), (1, 1, 1), "1.1", None, 1, (), (10 ** 60, 0), ("1", "1"))
+NO_FORMS = (
+    (8, 0), (0, 8), (-1, 0), (True, 0), (0, False), (1,), (1, 1, 1), "1.1", None, 1, (), (10 ** 60, 0), ("1", "1"),
+)
 ONLY_EMPTY = (
     Reader("s", ("e",), {}),
     Reader("s", ("e",), {("s", (1, 1)): "o", ("o", (1, 1)): "o"}),
@@ -51,7 +53,9 @@ class Interface(unittest.TestCase):
 
 class Making(unittest.TestCase):
     def test_parts(self):
-        reader = Reader("s", ("e", "o"), {("s", (2, 1)): "e", ("o", (0, 0)): "z", ("s", (1, 1)): "o", ("o", (1, 1)): "z"})
+        reader = Reader(
+            "s", ("e", "o"), {("s", (2, 1)): "e", ("o", (0, 0)): "z", ("s", (1, 1)): "o", ("o", (1, 1)): "z"},
+        )
         self.assertEqual((reader.first, reader.ends), ("s", ("e", "o")))
         self.assertEqual(reader.states, ("e", "o", "s", "z"))
         self.assertEqual(reader.forms, ((0, 0), (1, 1), (2, 1)))
@@ -73,7 +77,8 @@ class Making(unittest.TestCase):
 
     def test_states_that_end(self):
         for ends in (
-            (), ("o", "e"), ("e", "e"), ("e", "o", "o"), ["e", "o"], "e", {"e": "o"}, None, 1, True, ("e", 1), ("e", None),
+            (), ("o", "e"), ("e", "e"), ("e", "o", "o"), ["e", "o"], "e", {"e": "o"}, None, 1, True, ("e", 1),
+            ("e", None),
             ("E",), ("",), ("ninechars",), (("e",),), (("e", "o"),), PAIRS,
         ):
             with self.subTest(ends=ends):
@@ -151,7 +156,9 @@ class Lines(unittest.TestCase):
             self.assertEqual(reader.lines, lines)
 
     def test_reads_ascend_by_state_and_form(self):
-        reads = [f"read {state} {left}.{right} z" for state in ("aa", "b", "ba", "s") for left in (1, 2) for right in (0, 7)]
+        reads = [
+            f"read {state} {left}.{right} z" for state in ("aa", "b", "ba", "s") for left in (1, 2) for right in (0, 7)
+        ]
         for seed in range(20):
             mixed = list(reads)
             random.Random(seed).shuffle(mixed)
@@ -173,13 +180,16 @@ class Lines(unittest.TestCase):
 
     def test_values_that_are_no_lines(self):
         for line in (
-            "", " ", "first", "first ", "first  s", "first s ", " first s", "first s s", "first S", "first s\n", "First s",
+            "", " ", "first", "first ", "first  s", "first s ", " first s", "first s s", "first S", "first s\n",
+            "First s",
             "first ninechars", "first 1", "firsts", "ends", "ends ", "ends o e", "ends e e", "ends e  o", "ends e o ",
             "ends e O", "ends e,o", "ends e 1", "read", "read s", "read s 1.1", "read s 1.1 ", "read s 1.1 o ",
             "read s 1.1 o o", "read s  1.1 o", "read s 1.1  o", "read s 8.1 o", "read s 1.8 o", "read s -1.1 o",
-            "read s 1.-1 o", "read s 01.1 o", "read s 1.01 o", "read s -0.1 o", "read s 1 o", "read s 1.1.1 o", "read s . o",
+            "read s 1.-1 o", "read s 01.1 o", "read s 1.01 o", "read s -0.1 o", "read s 1 o", "read s 1.1.1 o",
+            "read s . o",
             "read s (1, 1) o", "read 1.1 s o", "read S 1.1 o", "read s 1.1 O", "read s 1.1 1", "read 1 1.1 o",
-            "read ninechars 1.1 o", "read s 1.1 ninechars", "read s\t1.1 o", "read s 1.1 o\n", "Read s 1.1 o", "arity 2",
+            "read ninechars 1.1 o", "read s 1.1 ninechars", "read s\t1.1 o", "read s 1.1 o\n", "Read s 1.1 o",
+            "arity 2",
             "start pushl m", "page m inner 4.1 to 2.1 pass 1.0 then m", "line", "s", "read s 1.1 o\nread s 2.1 o",
         ):
             with self.subTest(line=line):
@@ -239,7 +249,8 @@ class Reading(unittest.TestCase):
 
     def test_behind_of_no_forms(self):
         for value in (
-            None, [], [(1, 1)], "1.1", 1, True, ((1, 1),) * 201, ((8, 0),), ((1, 1), (0, -1)), ((1, True),), (1, 1), ((1,),),
+            None, [], [(1, 1)], "1.1", 1, True, ((1, 1),) * 201, ((8, 0),), ((1, 1), (0, -1)), ((1, True),), (1, 1),
+            ((1,),),
             {}, {(1, 1): 1}, ((1, 1), None), PAIRS,
         ):
             check_raises(self, InvalidRow, lambda: PAIRS.reader.behind(value))
@@ -248,7 +259,8 @@ class Reading(unittest.TestCase):
         for row in ((), ((1, 0),), ((3, 3),), ((1, 1), (0, 2)), ((1, 1),) * 200, ((2, 3),) * 199 + ((0, 1),)):
             self.assertIs(PAIRS.reader.takes(row), True)
         for value in (
-            ((0, 0),), ((4, 1),), ((0, 1), (1, 1)), ((1, 1), (0, 0)), ((1, 1),) * 201, [(1, 1)], [], None, "1.1", "-", 0, True,
+            ((0, 0),), ((4, 1),), ((0, 1), (1, 1)), ((1, 1), (0, 0)), ((1, 1),) * 201, [(1, 1)], [], None, "1.1", "-",
+            0, True,
             ((True, 1),), ((1, False),), ((1, 1), 1), {}, (1, 1),
         ):
             self.assertIs(PAIRS.reader.takes(value), False)
@@ -289,14 +301,17 @@ class Reading(unittest.TestCase):
 class Spare(unittest.TestCase):
     def test_lines_that_no_right_row_needs(self):
         reader = Reader.from_lines(
-            "first s", "ends e f", "read s 1.1 a", "read a 1.1 e", "read a 2.2 d", "read d 1.1 d", "read u 1.1 e", "read e 1.1 f",
+            "first s", "ends e f", "read s 1.1 a", "read a 1.1 e", "read a 2.2 d", "read d 1.1 d", "read u 1.1 e",
+            "read e 1.1 f",
             "read f 1.1 d", "read s 0.0 d",
         )
         self.assertEqual(
             reader.spare, (("a", (2, 2)), ("d", (1, 1)), ("f", (1, 1)), ("s", (0, 0)), ("u", (1, 1))),
         )
         self.assertEqual(PAIRS.reader.spare, ())
-        self.assertEqual([reader.spare for reader in ONLY_EMPTY], [tuple(sorted(reader.reads)) for reader in ONLY_EMPTY])
+        self.assertEqual(
+            [reader.spare for reader in ONLY_EMPTY], [tuple(sorted(reader.reads)) for reader in ONLY_EMPTY]
+        )
 
     def test_without_one_that_is_not_spare_a_row_is_not_right_any_more(self):
         for seed in range(120):
@@ -340,7 +355,8 @@ class Least(unittest.TestCase):
 
     def test_where_states_do_the_same(self):
         reader = Reader.from_lines(
-            "first s", "ends a b e", "read s 1.0 a", "read s 2.0 b", "read s 3.0 c", "read s 4.0 d", "read a 1.1 e", "read b 1.1 a",
+            "first s", "ends a b e", "read s 1.0 a", "read s 2.0 b", "read s 3.0 c", "read s 4.0 d", "read a 1.1 e",
+            "read b 1.1 a",
             "read c 1.1 b", "read d 1.1 a", "read e 1.1 b",
         )
         self.assertEqual(len(reader.least()), 3)
@@ -424,10 +440,12 @@ class Comparing(unittest.TestCase):
     def test_rows_that_part_can_be_long(self):
         # Both take rows of zeros with one bundle inside; their loops have 5 and 4 levels.
         one = Reader.from_lines(
-            "first s", "ends e", "read s 0.0 a", "read a 0.0 b", "read b 0.0 c", "read c 0.0 d", "read d 0.0 a", "read a 0.1 e",
+            "first s", "ends e", "read s 0.0 a", "read a 0.0 b", "read b 0.0 c", "read c 0.0 d", "read d 0.0 a",
+            "read a 0.1 e",
         )
         other = Reader.from_lines(
-            "first s", "ends e", "read s 0.0 a", "read a 0.0 b", "read b 0.0 c", "read c 0.0 d", "read d 0.0 a", "read b 0.1 e",
+            "first s", "ends e", "read s 0.0 a", "read a 0.0 b", "read b 0.0 c", "read c 0.0 d", "read d 0.0 a",
+            "read b 0.1 e",
             "read a 0.1 e",
         )
         self.assertEqual(parting_row(3, one, other), ((0, 0), (0, 0), (0, 1)))
@@ -461,7 +479,9 @@ class Comparing(unittest.TestCase):
                 self.assertIsNone(parting_row(3, reader, other))
 
     def test_of_the_document(self):
-        self.assertEqual([is_including(PAIRS.reader, TIGHT.reader), is_including(TIGHT.reader, PAIRS.reader)], [True, False])
+        self.assertEqual(
+            [is_including(PAIRS.reader, TIGHT.reader), is_including(TIGHT.reader, PAIRS.reader)], [True, False],
+        )
         self.assertIn(parting_row(2, PAIRS.reader, TIGHT.reader), (((3, 0),), ((0, 3),)))
         self.assertIn(parting_row(2, TIGHT.reader, PAIRS.reader), (((3, 0),), ((0, 3),)))
 
@@ -469,7 +489,9 @@ class Comparing(unittest.TestCase):
         no_readers = [(value, InvalidReader) for value in (None, PAIRS, 1, "s", (), PAIRS.reader.lines, PAIRS.machine)]
         no_arities = [(value, InvalidNumber) for value in (1, 4, True, None, "2", (2,), 2 * 10 ** 60, -2, [2], PAIRS)]
         check_first_error(self, is_including, (PAIRS.reader, TIGHT.reader), (no_readers, no_readers))
-        check_first_error(self, parting_row, (2, PAIRS.reader, TIGHT.reader), (no_arities, no_readers[:4], no_readers[:4]))
+        check_first_error(
+            self, parting_row, (2, PAIRS.reader, TIGHT.reader), (no_arities, no_readers[:4], no_readers[:4]),
+        )
 
     def test_values_of_every_kind(self):
         for value in odd_values():

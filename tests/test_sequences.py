@@ -12,7 +12,9 @@ from fingerbooks.seq import sequences
 from fingerbooks.seq.places import place_of
 from fingerbooks.seq.sequences import Sequence
 from tests import bundles
-from tests.books import FORMS, LESS, PAIRS, TIGHT, TRIPLES, changed_book, content_of, random_book, right_rows, size, wide
+from tests.books import (
+    FORMS, LESS, PAIRS, TIGHT, TRIPLES, changed_book, content_of, random_book, right_rows, size, wide,
+)
 from tests.checks import check_first_error, check_raises
 from tests.values import odd_values
 
@@ -47,7 +49,8 @@ class Interface(unittest.TestCase):
         for name in ("book", "outline", "content", "left_end", "right_end"):
             self.assertIsInstance(vars(Sequence)[name], property)
         for name in (
-            "of_row", "pushl", "pushr", "popl", "popr", "__getitem__", "with_nth", "sides", "mirrored", "elder", "__contains__",
+            "of_row", "pushl", "pushr", "popl", "popr", "__getitem__", "with_nth", "sides", "mirrored", "elder",
+            "__contains__",
             "__len__", "__bool__", "__iter__", "__eq__", "__str__",
         ):
             self.assertIn(name, vars(Sequence))
@@ -100,7 +103,11 @@ class Making(unittest.TestCase):
         self.assertEqual(Sequence.of_row(LESS, (), ()), Sequence(LESS))
 
     def test_of_row_with_other_content(self):
-        no_rows = [(value, InvalidRow) for value in (((0, 0),), ((0, 1), (1, 1)), ((4, 1),), [(1, 1)], None, ((1, 1),) * 201, SIX)]
+        no_rows = [
+            (value, InvalidRow) for value in (
+                ((0, 0),), ((0, 1), (1, 1)), ((4, 1),), [(1, 1)], None, ((1, 1),) * 201, SIX,
+            )
+        ]
         no_contents = NO_CONTENTS + [((), InvalidOperation), ((1, 2, 3), InvalidOperation), ((1,), InvalidOperation)]
         check_first_error(self, Sequence.of_row, (PAIRS, ((1, 1),), (1, 2)), (NO_BOOKS[:3], no_rows[:4], no_contents))
         for value, error in no_rows:
@@ -185,7 +192,10 @@ class Deeds(unittest.TestCase):
         self.assertEqual(sequence, Sequence(TRIPLES))
 
     def test_of_the_document(self):
-        self.assertEqual([SIX.outline, SIX.sides(0), SIX.sides(1)], [((2, 2), (0, 1)), (((1,), (2,)), ((5,), (6,))), ((), ((3, 4),))])
+        self.assertEqual(
+            [SIX.outline, SIX.sides(0), SIX.sides(1)],
+            [((2, 2), (0, 1)), (((1,), (2,)), ((5,), (6,))), ((), ((3, 4),))],
+        )
         self.assertEqual(SIX.popl().popl().popl().outline, ((1, 2),))
         self.assertEqual(SIX.pushl(0).popl(), SIX)
 
@@ -221,7 +231,9 @@ class Looking(unittest.TestCase):
     def test_index(self):
         for sequence in (SIX, Sequence(TRIPLES, tuple(range(50, 90)))):
             self.assertEqual([sequence[index] for index in range(len(sequence))], list(sequence.content))
-            for index in (-1, len(sequence), len(sequence) + 1, True, False, None, "0", (0,), 10 ** 59, 10 ** 60, slice(0, 1)):
+            for index in (
+                -1, len(sequence), len(sequence) + 1, True, False, None, "0", (0,), 10 ** 59, 10 ** 60, slice(0, 1),
+            ):
                 with self.assertRaises(InvalidNumber) as caught:
                     sequence[index]
                 self.assertIs(caught.exception.value, index)
@@ -281,7 +293,9 @@ class Looking(unittest.TestCase):
     def test_len_bool_and_iterating(self):
         for many in (0, 1, 2, 9):
             sequence = Sequence(PAIRS, tuple(range(many)))
-            self.assertEqual((len(sequence), list(sequence), list(iter(sequence))), (many, list(range(many)), list(range(many))))
+            self.assertEqual(
+                (len(sequence), list(sequence), list(iter(sequence))), (many, list(range(many)), list(range(many))),
+            )
             self.assertIs(bool(sequence), many > 0)
         self.assertIs(bool(Sequence(PAIRS, (0,))), True)
 
@@ -289,7 +303,8 @@ class Looking(unittest.TestCase):
         self.assertTrue(SIX == Sequence(PAIRS, (1, 2, 3, 4, 5, 6)))
         self.assertFalse(SIX != Sequence.of_row(PAIRS, ((2, 2), (0, 1)), (1, 2, 3, 4, 5, 6)))
         for other in (
-            Sequence(PAIRS, (1, 2, 3, 4, 5, 7)), Sequence(PAIRS, (1, 2, 3, 4, 5)), Sequence.of_row(PAIRS, ((3, 3),), (1, 2, 3, 4, 5, 6)),
+            Sequence(PAIRS, (1, 2, 3, 4, 5, 7)), Sequence(PAIRS, (1, 2, 3, 4, 5)),
+            Sequence.of_row(PAIRS, ((3, 3),), (1, 2, 3, 4, 5, 6)),
             Sequence.of_row(LESS, ((2, 2), (0, 1)), (1, 2, 3, 4, 5, 6)), Sequence(PAIRS), SIX.mirrored(),
         ):
             self.assertIs(SIX == other, False)
@@ -301,7 +316,10 @@ class Looking(unittest.TestCase):
     def test_str(self):
         self.assertEqual(
             [str(SIX), str(Sequence(PAIRS)), str(Sequence(PAIRS, (1,)))],
-            ["sequence of 6 elements, 2 levels", "sequence of 0 elements, 0 levels", "sequence of 1 elements, 1 levels"],
+            [
+                "sequence of 6 elements, 2 levels", "sequence of 0 elements, 0 levels",
+                "sequence of 1 elements, 1 levels",
+            ],
         )
 
 
@@ -357,7 +375,9 @@ class Elders(unittest.TestCase):
 
     def test_what_has_none(self):
         row = ((2, 2), (0, 1))
-        for sequence in (Sequence.of_row(PAIRS, row, (1, 2, 3, 4, 5, 6)), SIX.with_nth(0, 1), SIX.mirrored(), Sequence(PAIRS)):
+        for sequence in (
+            Sequence.of_row(PAIRS, row, (1, 2, 3, 4, 5, 6)), SIX.with_nth(0, 1), SIX.mirrored(), Sequence(PAIRS),
+        ):
             self.assertEqual(sequence.elder(many=0), sequence)
             for many in (1, 2, 6):
                 check_raises(self, NothingToUndo, lambda: sequence.elder(many=many), many)

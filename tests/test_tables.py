@@ -18,23 +18,36 @@ from tests.values import odd_values
 PAIR_OF = {"pushl": (1, 0), "pushr": (0, 1), "popl": (-1, 0), "popr": (0, -1)}
 LOOSE = PAIRS.without("page m inner 0.2 to 2.2 pass -1.0 then m")
 NO_BOOKS = [(value, InvalidBook) for value in (None, PAIRS.reader, PAIRS.lines, "book", 2)]
-NO_DEEDS = [(value, InvalidOperation) for value in ("", "push", "Popl", None, 0, True, ("popl",), ["popl"], {"popl": 1})]
+NO_DEEDS = [
+    (value, InvalidOperation) for value in ("", "push", "Popl", None, 0, True, ("popl",), ["popl"], {"popl": 1})
+]
 # Stands that cannot come about, but have the form of one.
 ODD_STANDS = (
-    ("", (-2, 2), "m", "", True), ("s", (2, -2), "m", "e", False), ("o", (0, 0), "m", "s", True), ("e", (1, 1), "m", "", False),
-    ("", (0, 0), "m", "s", False), ("s", (1, 0), "m", "s", False), ("s", (0, 1), "m", "s", True), ("s", (1, 0), "m", "o", True),
-    ("o", (0, 0), "", "", False), ("s", (0, 0), "", "", False), ("", (0, 0), "", "", False), ("", (0, 1), "m", "o", True),
+    ("", (-2, 2), "m", "", True), ("s", (2, -2), "m", "e", False), ("o", (0, 0), "m", "s", True),
+    ("e", (1, 1), "m", "", False),
+    ("", (0, 0), "m", "s", False), ("s", (1, 0), "m", "s", False), ("s", (0, 1), "m", "s", True),
+    ("s", (1, 0), "m", "o", True),
+    ("o", (0, 0), "", "", False), ("s", (0, 0), "", "", False), ("", (0, 0), "", "", False),
+    ("", (0, 1), "m", "o", True),
 )
 NO_STANDS = (
-    None, (), "s 1.0 m s yes", ("s", (1, 0), "m", "s"), ("s", (1, 0), "m", "s", True, True), ["s", (1, 0), "m", "s", True],
-    ("t", (1, 0), "m", "s", True), ("s", (1, 0), "m", "t", True), ("s", (1, 0), "n", "s", True), ("s", (3, 0), "m", "s", True),
-    ("s", (0, -3), "m", "s", True), ("s", [1, 0], "m", "s", True), ("s", (1,), "m", "s", True), ("s", (True, 0), "m", "s", True),
-    ("s", (1, False), "m", "s", True), ("s", (1, 0), "m", "s", 1), ("s", (1, 0), "m", "s", 0), ("s", (1, 0), "m", "s", None),
-    ("s", (1, 0), "m", "s", "yes"), (None, (1, 0), "m", "s", True), ("s", (1, 0), None, "s", True), ("s", (1, 0), "m", None, True),
-    (["s"], (1, 0), "m", "s", True), ("s", (1, 0), ["m"], "s", True), ("s", (1, 0), "m", {}, True), ("s", None, "m", "s", True),
-    ("s", (1, 0), "", "", False), ("s", (0, 0), "", "s", False), ("s", (0, 0), "", "", True), ("", (0, 1), "", "", False),
+    None, (), "s 1.0 m s yes", ("s", (1, 0), "m", "s"), ("s", (1, 0), "m", "s", True, True),
+    ["s", (1, 0), "m", "s", True],
+    ("t", (1, 0), "m", "s", True), ("s", (1, 0), "m", "t", True), ("s", (1, 0), "n", "s", True),
+    ("s", (3, 0), "m", "s", True),
+    ("s", (0, -3), "m", "s", True), ("s", [1, 0], "m", "s", True), ("s", (1,), "m", "s", True),
+    ("s", (True, 0), "m", "s", True),
+    ("s", (1, False), "m", "s", True), ("s", (1, 0), "m", "s", 1), ("s", (1, 0), "m", "s", 0),
+    ("s", (1, 0), "m", "s", None),
+    ("s", (1, 0), "m", "s", "yes"), (None, (1, 0), "m", "s", True), ("s", (1, 0), None, "s", True),
+    ("s", (1, 0), "m", None, True),
+    (["s"], (1, 0), "m", "s", True), ("s", (1, 0), ["m"], "s", True), ("s", (1, 0), "m", {}, True),
+    ("s", None, "m", "s", True),
+    ("s", (1, 0), "", "", False), ("s", (0, 0), "", "s", False), ("s", (0, 0), "", "", True),
+    ("", (0, 1), "", "", False),
     ("", (0, 0), "", "o", False), ("", (0, 0), "", "", True), ("x", (0, 0), "", "", False), ("s", (0, 0), "", "", 0),
-    ("s", (0, 0), "", None, False), ("s", (False, 0), "", "", False), ("s", (1, 0), "M", "s", True), ("S", (1, 0), "m", "s", True),
+    ("s", (0, 0), "", None, False), ("s", (False, 0), "", "", False), ("s", (1, 0), "M", "s", True),
+    ("S", (1, 0), "m", "s", True),
 )
 
 
@@ -121,19 +134,20 @@ class Interface(unittest.TestCase):
 class Stands(unittest.TestCase):
     def test_all_that_have_the_form_of_one(self):
         book = Book.from_lines(
-            "arity 2", "first s", "ends e", "read s 1.0 e", "start pushl a", "start pushr a", "start popl b", "start popr a",
+            "arity 2", "first s", "ends e", "read s 1.0 e", "start pushl a", "start pushr a", "start popl b",
+            "start popr a",
             "page c inner 1.1 to 1.1 pass 0.0 then d",
         )
         for state, pair, note, new, ends in itertools.product(
-            ("s", "e", "", "a", "o"), itertools.product(range(-3, 4), repeat=2), ("a", "b", "c", "d", "", "m", "s"), ("s", "e", "", "a"),
+            ("s", "e", "", "a", "o"), itertools.product(range(-3, 4), repeat=2), ("a", "b", "c", "d", "", "m", "s"),
+            ("s", "e", "", "a"),
             (True, False),
         ):
             if note == "":
                 expected = state in ("s", "e", "") and (pair, new, ends) == ((0, 0), "", False)
             else:
-                expected = (
-                    state in ("s", "e", "") and -2 <= min(pair) and max(pair) <= 2 and note in "abcd" and new in ("s", "e", "")
-                )
+                states = ("s", "e", "")
+                expected = state in states and new in states and -2 <= min(pair) and max(pair) <= 2 and note in "abcd"
             self.assertIs(is_stand(book, (state, pair, note, new, ends)), expected)
 
     def test_others(self):
@@ -161,7 +175,10 @@ class Stands(unittest.TestCase):
         book = PAIRS.with_line("start popr x").renamed({"s": "t", "e": "e", "o": "o"}, {"m": "n", "x": "y"})
         self.assertEqual(
             [start_of(book, deed) for deed in DEEDS],
-            [("t", (1, 0), "n", "t", True), ("t", (0, 1), "n", "t", True), ("t", (-1, 0), "n", "t", True), ("t", (0, -1), "y", "t", True)],
+            [
+                ("t", (1, 0), "n", "t", True), ("t", (0, 1), "n", "t", True), ("t", (-1, 0), "n", "t", True),
+                ("t", (0, -1), "y", "t", True),
+            ],
         )
 
     def test_final(self):
@@ -184,7 +201,8 @@ class Moves(unittest.TestCase):
                 stands = list(reachable(book, deed)) + [(state, (0, 0), "", "", False) for state in states]
                 for _ in range(20):
                     stands.append((
-                        rng.choice(states), (rng.randint(-2, 2), rng.randint(-2, 2)), rng.choice(notes), rng.choice(states),
+                        rng.choice(states), (rng.randint(-2, 2), rng.randint(-2, 2)), rng.choice(notes),
+                        rng.choice(states),
                         rng.random() < 0.5,
                     ))
                 for stand in stands:
@@ -213,8 +231,12 @@ class Moves(unittest.TestCase):
                 self.assertNotIn("new", [where for where, _, _ in moves(PAIRS, "pushl", stand)])
 
     def test_new_levels(self):
-        self.assertEqual(moves(PAIRS, "popl", ("", (1, 0), "m", "o", True)), (("new", (0, 0), ("", (0, 0), "m", "e", True)),))
-        self.assertEqual(moves(PAIRS, "popl", ("", (-1, 0), "m", "o", True)), (("new", (0, 0), ("", (0, 0), "", "", False)),))
+        self.assertEqual(
+            moves(PAIRS, "popl", ("", (1, 0), "m", "o", True)), (("new", (0, 0), ("", (0, 0), "m", "e", True)),),
+        )
+        self.assertEqual(
+            moves(PAIRS, "popl", ("", (-1, 0), "m", "o", True)), (("new", (0, 0), ("", (0, 0), "", "", False)),),
+        )
         self.assertEqual(moves(PAIRS, "pushl", ("", (0, 0), "m", "o", True)), ())
         self.assertEqual(moves(PAIRS, "pushl", ("e", (1, 0), "m", "o", True)), ())
 
@@ -222,7 +244,8 @@ class Moves(unittest.TestCase):
         found = moves(LESS, "popl", ("o", (0, 0), "", "", False))
         self.assertEqual(len(found), 30)
         self.assertEqual({(where, stand) for where, _, stand in found}, {
-            ("inner", ("o", (0, 0), "", "", False)), ("inner", ("e", (0, 0), "", "", False)), ("last", ("", (0, 0), "", "", False)),
+            ("inner", ("o", (0, 0), "", "", False)), ("inner", ("e", (0, 0), "", "", False)),
+            ("last", ("", (0, 0), "", "", False)),
         })
         self.assertEqual(moves(LESS, "popl", ("", (0, 0), "", "", False)), ())
         self.assertEqual(moves(LESS, "popl", ("e", (0, 0), "", "", False)), ())
@@ -231,13 +254,20 @@ class Moves(unittest.TestCase):
         # As long as all new forms are (0, 0) the new row is the empty one, which is right, whatever the lines do.
         book = plain(Reader("s", ("e",), {("s", (1, 0)): "a", ("a", (1, 0)): "e", ("s", (0, 0)): "b"}))
         stand = ("s", (-1, 0), "m", "s", True)
-        self.assertEqual(dict((move[:2], move[2]) for move in moves(book, "popl", stand))[("inner", (1, 0))], ("a", (0, 0), "m", "b", True))
+        self.assertEqual(
+            dict((move[:2], move[2]) for move in moves(book, "popl", stand))[("inner", (1, 0))],
+            ("a", (0, 0), "m", "b", True)
+        )
         self.assertEqual(
             moves(book, "popl", ("a", (-1, 0), "m", "", True)),
             (("inner", (1, 0), ("e", (0, 0), "m", "", True)), ("last", (1, 0), ("", (0, 0), "m", "", True))),
         )
-        self.assertEqual(moves(book, "popl", ("a", (-1, 0), "m", "", False))[1], ("last", (1, 0), ("", (0, 0), "m", "", False)))
-        self.assertEqual(moves(book, "popl", ("a", (0, 0), "m", "a", False))[1], ("last", (1, 0), ("", (0, 0), "m", "e", True)))
+        self.assertEqual(
+            moves(book, "popl", ("a", (-1, 0), "m", "", False))[1], ("last", (1, 0), ("", (0, 0), "m", "", False)),
+        )
+        self.assertEqual(
+            moves(book, "popl", ("a", (0, 0), "m", "a", False))[1], ("last", (1, 0), ("", (0, 0), "m", "e", True)),
+        )
 
     def test_first_error(self):
         no_stands = [(value, InvalidOperation) for value in NO_STANDS[:6]]
@@ -258,7 +288,8 @@ class Moves(unittest.TestCase):
                 check_raises(self, InvalidOperation, lambda: Table(PAIRS, value))
                 if not isinstance(value, Book):
                     for call in (
-                        lambda: start_of(value, "popl"), lambda: moves(value, "popl", None), lambda: is_stand(value, None),
+                        lambda: start_of(value, "popl"), lambda: moves(value, "popl", None),
+                        lambda: is_stand(value, None),
                         lambda: is_final(value, None), lambda: Table(value, "popl"),
                     ):
                         check_raises(self, InvalidBook, call)
@@ -274,13 +305,17 @@ class Tables(unittest.TestCase):
                 size = -1
                 while size != len(live):
                     size = len(live)
-                    live |= {stand for stand in found if any(move[2] in live for move in moves_by_hand(book, deed, stand))}
+                    live |= {
+                        stand for stand in found if any(move[2] in live for move in moves_by_hand(book, deed, stand))
+                    }
                 live.add(start_of(book, deed))
                 self.assertEqual(table.stands, tuple(sorted(live)))
                 self.assertEqual(table.finals, tuple(stand for stand in sorted(live) if stand[:2] == ("", (0, 0))))
                 self.assertEqual(table.wrong, tuple(stand for stand in table.finals if stand[4] is False))
                 self.assertIs(table.is_good, table.wrong == ())
-                self.assertEqual((table.book, table.kind, len(table), list(table)), (book, deed, len(live), sorted(live)))
+                self.assertEqual(
+                    (table.book, table.kind, len(table), list(table)), (book, deed, len(live), sorted(live)),
+                )
                 self.assertEqual(str(table), f"table of {len(live)} stands, {len(table.wrong)} wrong")
                 dead += len(found) - len(live)
         self.assertGreater(dead, 100)
@@ -392,7 +427,9 @@ class Tables(unittest.TestCase):
     def test_books_without_right_rows(self):
         empty = plain(Reader("s", ("e",), {("s", (1, 1)): "o", ("o", (1, 1)): "o"}))
         table = Table(empty, "popl")
-        self.assertEqual((table.stands, table.finals, table.wrong, table.is_good), ((start_of(empty, "popl"),), (), (), True))
+        self.assertEqual(
+            (table.stands, table.finals, table.wrong, table.is_good), ((start_of(empty, "popl"),), (), (), True),
+        )
         self.assertEqual(str(table), "table of 1 stands, 0 wrong")
         # A put can be done in the empty row, and fails there.
         table = Table(empty, "pushl")
@@ -408,7 +445,9 @@ class Tables(unittest.TestCase):
         for book in some_books():
             for deed, other in (("pushl", "pushr"), ("pushr", "pushl"), ("popl", "popr"), ("popr", "popl")):
                 table, mirrored = Table(book, deed), Table(book.mirrored(), other)
-                self.assertEqual(sorted((stand[0], stand[1][::-1]) + stand[2:] for stand in table), list(mirrored.stands))
+                self.assertEqual(
+                    sorted((stand[0], stand[1][::-1]) + stand[2:] for stand in table), list(mirrored.stands)
+                )
                 self.assertIs(table.is_good, mirrored.is_good)
 
     def test_a_page_that_no_deed_meets_can_go(self):

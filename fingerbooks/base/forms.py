@@ -129,6 +129,11 @@ def sides_of(arity, row):
     """The pair of the numbers of elements at the left and at the right sides of a row."""
     check_arity(arity)
     check_row(row)
+    return sums_of(arity, row)
+
+
+def sums_of(arity, row):
+    """What sides_of tells, for a row of any number of levels."""
     left_sum = 0
     right_sum = 0
     for left, right in row[::-1]:

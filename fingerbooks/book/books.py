@@ -119,7 +119,7 @@ class Book:
         return Book(Reader(states[self._reader.first], ends, reads), Machine(self._machine.arity, tuple(pages)), starts)
 
     def __contains__(self, value):
-        return isinstance(value, str) and value in self._lines
+        return value in self._lines
 
     def __iter__(self):
         return iter(self._lines)
@@ -131,8 +131,7 @@ class Book:
         return isinstance(other, Book) and self._lines == other._lines
 
     def __str__(self):
-        states, pages = len(self._reader.states), len(self._machine.pages)
-        return f"book of arity {self._machine.arity}, {states} states, {pages} pages"
+        return f"book of arity {self._machine.arity}, {len(self._reader)} states, {len(self._machine)} pages"
 
 
 def check_book(value):
@@ -143,7 +142,7 @@ def check_book(value):
 
 def is_deed(value):
     """Whether the value is one of the four deeds."""
-    return isinstance(value, str) and value in DEEDS
+    return value in DEEDS
 
 
 def check_deed(value):

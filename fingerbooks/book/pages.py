@@ -18,7 +18,7 @@ def is_passed(value):
 
 def is_where(value):
     """Whether the value is one of the two words for levels."""
-    return isinstance(value, str) and value in WHERE
+    return value in WHERE
 
 
 def is_raw(value):

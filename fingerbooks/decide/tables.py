@@ -18,12 +18,12 @@ def is_stand(book, value):
         return False
     if note == "":
         return value == _broken_stand(state)
-    return isinstance(note, str) and note in book.notes and _is_state_or_none(book, new)
+    return note in book.notes and _is_state_or_none(book, new)
 
 
 def _is_state_or_none(book, value):
     """Whether the value is a state of the reader of a book, or the empty string."""
-    return isinstance(value, str) and (value == "" or value in book.reader.states)
+    return value == "" or value in book.reader.states
 
 
 def _broken_stand(state):

@@ -1,6 +1,6 @@
 """Deeds on rows: the rows to which they lead, the steps that are done, and the levels that they touch."""
 
-from fingerbooks.base.forms import length_of
+from fingerbooks.base.forms import sums_of
 from fingerbooks.book.books import check_book, check_deed, is_deed, is_put
 from fingerbooks.errors import Broken, EmptySequence, InvalidOperation, InvalidRow
 
@@ -30,7 +30,8 @@ def check_can_be_done(row, deed):
 def row_if_done(book, row, deed):
     """The new row of a deed that can be done in a right row, None if it fails."""
     new = book.passage(row, deed)[0]
-    return new if book.is_right(new) else None
+    # A deed can lead to more levels than a row has that is passed.
+    return new if new is not None and book.reader.takes_row(new) else None
 
 
 def new_row(book, row, deed):
@@ -78,7 +79,7 @@ def row_after(book, row, deeds):
 
 def lengths_along(book, row, deeds):
     """The lengths of all rows on the way along deeds, with the first one."""
-    return tuple([length_of(book.arity, found) for found in _rows_along(book, row, deeds)])
+    return tuple([sum(sums_of(book.arity, found)) for found in _rows_along(book, row, deeds)])
 
 
 def _rows_along(book, row, deeds):

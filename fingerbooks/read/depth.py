@@ -66,7 +66,7 @@ def deep_row(book, side, more):
 def _check_side(book, side):
     """Refuse what is no book, and what is no side."""
     check_book(book)
-    if not isinstance(side, str) or side not in SIDES:
+    if side not in SIDES:
         raise InvalidOperation("a side is left or right")
 
 
@@ -119,7 +119,7 @@ def _places_behind_outer(arity, more, carry, many):
     """Where a way can be behind an outer level, to which a carry comes from the number of elements ahead, and one."""
     onward = (carry + many) // arity
     if more == 0:
-        # The element can be at this level itself, if its figure is the last one of the number.
-        return [(_OUTER, onward)] + ([(_INNER, 0)] if many > 0 and carry < arity else [])
+        # The outermost element at the side has no excess below 0.
+        return [(_OUTER, onward)] + ([(_INNER, 0)] if many > 0 else [])
     # The number has no more figures if nothing is carried on.
     return [(_OUTER, onward)] + ([(_GAP, more - 1)] if onward == 0 else [])

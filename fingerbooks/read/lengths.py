@@ -62,15 +62,20 @@ def least_missing(arity, reader):
 def _members_and_images(arity, reader):
     """The numbers of the members, and for each figure and member the set of those that are possible behind them."""
     options = _options(reader)
+    members = _members(sorted(options))
+    images = []
+    for figure in range(arity):
+        images.append([_set_behind(arity, members, options[state], carry - figure) for state, carry in members])
+    return members, images
+
+
+def _members(states):
+    """The numbers of the members: of each state with each carry."""
     members = {}
-    for state in sorted(options):
+    for state in states:
         for carry in range(_CARRIES):
             members[(state, carry)] = len(members)
-    images = [
-        [_set_behind(arity, members, options[state], carry - figure) for state, carry in members]
-        for figure in range(arity)
-    ]
-    return members, images
+    return members
 
 
 def _options(reader):

@@ -96,7 +96,11 @@ class Reader:
 
     def takes(self, value):
         """Whether the value is a right row."""
-        return is_row(value) and (value == () or self._led_to(value) in self._ends)
+        return is_row(value) and self.takes_row(value)
+
+    def takes_row(self, row):
+        """Whether a row, of any number of levels, is right."""
+        return row == () or self._led_to(row) in self._ends
 
     def mirrored(self):
         """The reader with the numbers of all forms exchanged."""

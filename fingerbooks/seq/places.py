@@ -1,6 +1,6 @@
 """Places of elements in rows, and where deeds leave them."""
 
-from fingerbooks.base.forms import check_arity, check_row, length_of
+from fingerbooks.base.forms import check_arity, check_row, length_of, sums_of
 from fingerbooks.base.words import is_within
 from fingerbooks.deeds.rows import new_row
 from fingerbooks.errors import InvalidNumber, InvalidOperation, InvalidPlace
@@ -25,7 +25,7 @@ def _check_number(arity, row, number):
 
 def _place_at(arity, row, number):
     """The place of the element with a number, which the row has."""
-    level, side, begin, _ = [span for span in spans(arity, row) if span[2] <= number < span[3]][0]
+    level, side, begin, _ = [span for span in _spans(arity, row) if span[2] <= number < span[3]][0]
     index = number - begin
     path = []
     for _ in range(level):
@@ -41,7 +41,7 @@ def number_of(arity, row, place):
     level, side, index, path = place
     for part in path:
         index = index * arity + part
-    begins = [span[2] for span in spans(arity, row) if span[:2] == (level, side)]
+    begins = [span[2] for span in _spans(arity, row) if span[:2] == (level, side)]
     return begins[0] + index
 
 
@@ -52,7 +52,7 @@ def is_place(arity, row, value):
     if not isinstance(value, tuple) or len(value) != 4:
         return False
     level, side, index, path = value
-    if not is_within(level, 0, len(row) - 1) or not isinstance(side, str) or side not in SIDES:
+    if not is_within(level, 0, len(row) - 1) or side not in SIDES:
         return False
     if not is_within(index, 0, row[level][SIDES.index(side)] - 1):
         return False
@@ -63,6 +63,11 @@ def spans(arity, row):
     """For all sides with bundles, in order: the level, the side, the first number there and the one behind them."""
     check_arity(arity)
     check_row(row)
+    return _spans(arity, row)
+
+
+def _spans(arity, row):
+    """What spans tells, for a row of any number of levels."""
     sizes = []
     weight = 1
     for level, (left, right) in enumerate(row):
@@ -100,18 +105,18 @@ def place_behind(book, row, deed, number):
     _check_is_there(new)
     # All elements but the one that is put or taken stay in their order.
     behind = number + _SHIFTS[deed]
-    return _place_at(book.arity, new, behind) if 0 <= behind < length_of(book.arity, new) else None
+    return _place_at(book.arity, new, behind) if 0 <= behind < sum(sums_of(book.arity, new)) else None
 
 
 def staying(book, row, deed):
     """How many elements of a row, but the one that is taken, have the same place in the new row of a deed."""
     new = new_row(book, row, deed)
     _check_is_there(new)
-    ends = {(level, side, begin): end for level, side, begin, end in spans(book.arity, new)}
+    ends = {(level, side, begin): end for level, side, begin, end in _spans(book.arity, new)}
     many = 0
     # Elements of one side stay where they are if the first one does, as far as the new side goes: the one that is taken
     # would be ahead of the first side or behind the last one.
-    for level, side, begin, end in spans(book.arity, row):
+    for level, side, begin, end in _spans(book.arity, row):
         begin_behind = begin + _SHIFTS[deed]
         end_behind = ends.get((level, side, begin_behind), begin_behind)
         many = many + min(end - begin, end_behind - begin_behind)

@@ -13,10 +13,10 @@ MAX_CONTENT = 5000
 class Past:
     """The last deed that led to a sequence: its element, the row ahead of it, and the past of the sequence there."""
 
-    def __init__(self, deed, element, outline, earlier):
+    def __init__(self, deed, element, row, earlier):
         self.deed = deed
         self.element = element
-        self.outline = outline
+        self.row = row
         self.earlier = earlier
 
 
@@ -140,7 +140,7 @@ class Sequence:
             if past is None:
                 raise NothingToUndo(many)
             _take_back(content, past.deed, past.element)
-            outline = past.outline
+            outline = past.row
             past = past.earlier
         return _sequence(self._book, outline, tuple(content), past)
 
