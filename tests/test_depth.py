@@ -167,6 +167,19 @@ class MissingLengths(unittest.TestCase):
             if found is not None and found < arity ** 5:
                 self.assertEqual(found, expected)
 
+    def test_more_than_20000_sets(self):
+        # There is a right row of each length by the state u; the others make many sets with their carries.
+        lines = (
+            "first s", "ends e", "read s 0.0 u", "read s 0.1 u", "read s 1.0 e", "read u 0.0 u", "read u 0.1 u",
+            "read u 1.0 e", "read a 2.3 b", "read a 3.6 e", "read a 7.4 e", "read a 7.7 a", "read b 2.0 b",
+            "read b 2.7 e", "read b 3.0 c", "read c 2.3 e", "read c 3.5 a", "read c 3.7 b", "read c 4.7 c",
+        )
+        self.assertIsNone(missing_length(plain(Reader.from_lines(*lines))))
+        many = plain(Reader.from_lines(*lines, "read s 3.2 c"))
+        check_raises(self, TooMany, lambda: missing_length(many), 20000)
+        # Where a small length is missing, few sets are needed to tell it.
+        self.assertEqual(missing_length(many.without("read s 1.0 e")), 1)
+
     def test_too_many_sets(self):
         kept = lengths.MAX_SETS
         self.assertEqual(kept, 20000)
