@@ -1,4 +1,4 @@
-"""Rules of the language of the program that a test can see: L1, L2, L4 to L8, L10, L12, L14 to L17, L20, L25, L27."""
+"""Rules of the language of the program that a test can see: L1, L2, L4 to L8, L10, L12, L14 to L17, L20, L23 to L28."""
 
 import ast
 import builtins
@@ -30,6 +30,10 @@ METHODS = {
     "__contains__", "__getitem__",
 }
 PREFIXES = ("_wall", "_pe_", "_dcw_", "_enum_", "_cm_", "_twin_re_", "_lay_", "_law_", "_stub_", "_sre", "_WallAttr")
+CHANGES = {
+    "append", "extend", "insert", "pop", "remove", "reverse", "clear", "update", "setdefault", "add", "discard",
+    "appendleft", "popleft", "extendleft",
+}
 BUILTIN_METHODS = {name for kind in (str, int, list, dict, set, bytes, tuple) for name in dir(kind)}
 BARRED = {
     "register", "mro", "elements", "open", "input", "law", "version_info", "with_traceback", "add_note", "typing",
@@ -231,6 +235,85 @@ class Classes(unittest.TestCase):
                 for part in ast.walk(node):
                     if isinstance(part, ast.Attribute) and isinstance(part.ctx, ast.Store):
                         self.assertNotIn(part.attr, methods, f"{path}:{part.lineno}")
+
+
+    def test_texts_of_objects_are_written_as_texts(self):
+        for path, node in nodes():
+            if isinstance(node, ast.FunctionDef) and node.name in ("__str__", "__repr__"):
+                for part in ast.walk(node):
+                    if isinstance(part, ast.Return):
+                        self.assertTrue(is_text(part.value), f"{path}:{part.lineno}")
+
+
+class Loops(unittest.TestCase):
+    def test_nothing_is_changed_while_it_is_walked(self):
+        for path, node in nodes():
+            if isinstance(node, ast.FunctionDef):
+                same = other_names(node)
+                for loop in ast.walk(node):
+                    if isinstance(loop, ast.For):
+                        walked = {name for begun in walked_names(loop.iter) for name in same.get(begun, {begun})}
+                        changed = {name for part in loop.body for name in changed_names(part)}
+                        self.assertEqual(walked & changed, set(), f"{path}:{loop.lineno}")
+
+
+def is_text(value):
+    """Whether what is returned is a string, an f-string, str(..), repr(..) or the join of a literal."""
+    if isinstance(value, ast.Call):
+        if isinstance(value.func, ast.Attribute):
+            return value.func.attr == "join" and isinstance(value.func.value, ast.Constant)
+        return isinstance(value.func, ast.Name) and value.func.id in ("str", "repr")
+    return isinstance(value, ast.JoinedStr) or isinstance(getattr(value, "value", None), str)
+
+
+def path_of(node):
+    """The name of a variable or an attribute like self._rows, None for anything else."""
+    if isinstance(node, ast.Attribute):
+        ahead = path_of(node.value)
+        return None if ahead is None else f"{ahead}.{node.attr}"
+    return node.id if isinstance(node, ast.Name) else None
+
+
+def walked_names(node):
+    """What a loop goes over by its name, also through enumerate and its kin."""
+    if isinstance(node, ast.Call):
+        if isinstance(node.func, ast.Name) and node.func.id in ("enumerate", "zip", "reversed"):
+            return [name for part in node.args for name in walked_names(part)]
+        if isinstance(node.func, ast.Attribute) and node.func.attr in ("items", "keys", "values"):
+            return walked_names(node.func.value)
+    if isinstance(node, ast.IfExp):
+        return walked_names(node.body) + walked_names(node.orelse)
+    if isinstance(node, ast.BoolOp):
+        return [name for part in node.values for name in walked_names(part)]
+    return [] if path_of(node) is None else [path_of(node)]
+
+
+def other_names(function):
+    """For each name of a function those to which the same thing may be given by a plain assignment."""
+    groups = {}
+    for node in ast.walk(function):
+        if isinstance(node, ast.Assign):
+            for name in [path_of(target) for target in node.targets] + walked_names(node.value):
+                if walked_names(node.value) and name is not None and not isinstance(node.value, ast.Call):
+                    joined = set().union(*(groups.get(part, {part}) for part in walked_names(node.value)))
+                    joined |= groups.get(name, {name})
+                    groups.update({part: joined for part in joined})
+    return groups
+
+
+def changed_names(statement):
+    """What a statement changes by its name."""
+    found = set()
+    for node in ast.walk(statement):
+        if isinstance(node, ast.Call) and isinstance(node.func, ast.Attribute) and node.func.attr in CHANGES:
+            found.add(path_of(node.func.value))
+        if isinstance(node, ast.Call) and isinstance(node.func, ast.Name) and node.func.id.startswith("heap"):
+            found.add(path_of(node.args[0]))
+        if isinstance(node, ast.Subscript) and not isinstance(node.ctx, ast.Load):
+            found.add(path_of(node.value))
+        if isinstance(node, ast.AugAssign):
+            found.add(path_of(node.target))
+    return found - {None}
 
 
 def names_of(node):

@@ -109,7 +109,7 @@ class Page:
         return isinstance(other, Page) and self._line == other._line
 
     def __str__(self):
-        return self._line
+        return f"{self._line}"
 
 
 def _arities_for(where, raw, form, passed):

@@ -176,7 +176,7 @@ def _explored(book, deed, start):
     layer = [start]
     while layer != []:
         following = []
-        for stand in layer:
+        for stand in list(layer):
             for move in moves_from(book, deed, stand):
                 back.setdefault(move[2], []).append(stand)
                 if move[2] not in ways:

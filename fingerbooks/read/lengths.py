@@ -46,7 +46,7 @@ def least_missing(arity, reader):
         if goals != []:
             return shortest_ways(arity, lines, goals)[start][0]
         following = []
-        for held in layer:
+        for held in list(layer):
             for figure in range(arity):
                 other = _image(held, images[figure])
                 lines.append((held, (figure, 0), other))
