@@ -4,11 +4,13 @@ import unittest
 
 from fingerbooks.base import forms, words
 from fingerbooks.book import books, pages
-from fingerbooks.decide import tables
+from fingerbooks.decide import churn, levels, papers, plans, tables
 from fingerbooks.deeds import rows
 from fingerbooks.read import depth, readers
 from fingerbooks.seq import places, sequences
 from tests.books import PAIRS, TIGHT
+
+MODULES = (words, forms, readers, pages, books, depth, rows, places, sequences, tables, papers, levels, plans, churn)
 
 # Pairs of what is asked and the answer; what has no answer gives names to values for what follows.
 EXAMPLES = (
@@ -136,14 +138,67 @@ EXAMPLES = (
         '[Table(loose, "pushl").is_good, Table(loose, "popl").is_good, is_final(loose, ("", (0, 0), "m", "", False))]',
         "[True, False, True]",
     ),
+    (
+        '[is_good(PAIRS, "popl"), least_bad(less, "popl"), paper(less, "popl"), '
+        'is_paper(less, "popl", ("bad", ((1, 1), (0, 1)))), least_bad(less, "popr")]',
+        "[True, ((0, 1),), ('bad', ((0, 1),)), True, None]",
+    ),
+    ('stands_of(PAIRS, ((1, 0),), "popl")', "(('s', (-1, 0), 'm', 's', True), ('', (0, 0), 'm', '', True))"),
+    ('row_along(PAIRS, "popl", stands_of(PAIRS, ((1, 0),), "popl")) in (((0, 1),), ((1, 0),))', "True"),
+    (
+        '[most_touched(PAIRS, "pushl"), most_reached(TIGHT, "popr"), '
+        '[least_length_for(PAIRS, "pushl", many) for many in range(4)]]',
+        "[None, None, [0, 0, 4, 12]]",
+    ),
+    (
+        'plain = Book.from_lines("arity 2", "first s", "ends o", "read s 0.1 o", "read s 1.0 o", "read s 1.1 o", '
+        '"start pushl m", "start pushr m", "start popl m", "start popr m")',
+        None,
+    ),
+    (
+        '[most_touched(plain, "pushl"), busy_row(plain, "pushl", 1), busy_row(plain, "popl", 2), '
+        'length_of(2, busy_row(PAIRS, "popl", 2))]',
+        "[1, (), None, 4]",
+    ),
+    (
+        '[leads_back(PAIRS, ("pushl", "popl")), straying_row(PAIRS, ("pushl", "popl")), '
+        'leads_back(TIGHT, ("pushl", "popl"))]',
+        "[False, ((3, 0),), False]",
+    ),
+    (
+        '[are_alike(PAIRS, ("pushl", "pushr"), ("pushr", "pushl")), are_alike(PAIRS, ("pushl",), ("pushl",)), '
+        'is_plan(("pushl",) * 5)]',
+        "[False, True, False]",
+    ),
+    ('[sum(form) for form in unlike_row(PAIRS, ("pushl", "pushr"), ("pushr", "pushl"))]', "[3]"),
+    (
+        '[failing_row(PAIRS, ("popl", "popr")), length_of(2, failing_row(loose, ("popl",))), '
+        'failing_row(loose, ("pushl", "popl"))]',
+        "[None, 5, None]",
+    ),
+    (
+        '[churn_bound(PAIRS, ("pushl", "popl")), churn_bound(TIGHT, ("pushl", "popl")), churn_bound(TIGHT, ("pushl",))]',
+        "[1, None, 0]",
+    ),
+    ('churning = churning_row(TIGHT, ("pushl", "popl"), 2)', None),
+    (
+        '[length_of(2, churning), churning_row(PAIRS, ("pushl", "popl"), 2), '
+        'is_churning(TIGHT, ("pushl", "popl"), ((2, 1), (2, 2)))]',
+        "[5, None, True]",
+    ),
 )
+
+
+def is_told_by(module, thing):
+    """Whether a thing is defined in a module, or is a constant of it."""
+    return getattr(thing, "__module__", module.__name__) == module.__name__
 
 
 class Examples(unittest.TestCase):
     def test_answers_are_those_of_the_document(self):
         names = {"PAIRS": PAIRS, "TIGHT": TIGHT}
-        for module in (words, forms, readers, pages, books, depth, rows, places, sequences, tables):
-            names.update(vars(module))
+        for module in MODULES:
+            names.update({name: thing for name, thing in vars(module).items() if is_told_by(module, thing)})
         for asked, answer in EXAMPLES:
             with self.subTest(asked=asked):
                 if answer is None:

@@ -35,10 +35,10 @@ def start_of(book, deed):
     """The stand in which a deed begins."""
     check_book(book)
     check_deed(deed)
-    return _start(book, deed)
+    return first_stand(book, deed)
 
 
-def _start(book, deed):
+def first_stand(book, deed):
     """The stand in which a deed begins, for values that need no check."""
     return book.reader.first, first_pair(deed), book.start_note(deed), book.reader.first, True
 
@@ -57,23 +57,20 @@ def moves_from(book, deed, stand):
     state, pair = stand[:2]
     found = []
     for form, after in book.reader.onward(state):
-        found.append(("inner", form, _stand_behind(book, stand, "inner", form, after)))
+        found.append(("inner", form, stand_behind(book, stand, "inner", form, after)))
         if after in book.reader.ends:
-            found.append(("last", form, _stand_behind(book, stand, "last", form, "")))
+            found.append(("last", form, stand_behind(book, stand, "last", form, "")))
     # No line leads to the first state, so no other stand than the start is equal to it.
-    in_empty_row = is_put(deed) and stand == _start(book, deed)
+    in_empty_row = is_put(deed) and stand == first_stand(book, deed)
     if in_empty_row or (state == "" and pair != (0, 0)):
-        found.append(("new", (0, 0), _stand_behind(book, stand, "last", (0, 0), "")))
+        found.append(("new", (0, 0), stand_behind(book, stand, "last", (0, 0), "")))
     return tuple(sorted(found))
 
 
-def _stand_behind(book, stand, where, form, state):
+def stand_behind(book, stand, where, form, state):
     """The stand that follows if a level with a form is read, behind which the old row is in a state."""
-    _, pair, note, new, ends = stand
-    result = None
-    # A broken stand has no note, and nothing is done any more behind it.
-    if note != "":
-        result = book.machine.result(note, where, (form[0] + pair[0], form[1] + pair[1]))
+    new, ends = stand[3:]
+    result = result_at(book, stand, where, form)
     if result is None:
         return _broken_stand(state)
     new_form, passed, after = result
@@ -83,12 +80,21 @@ def _stand_behind(book, stand, where, form, state):
     return state, passed, after, behind, ends
 
 
+def result_at(book, stand, where, form):
+    """What the machine does in a stand at a level with a form, None if it breaks there or has broken ahead of it."""
+    _, pair, note, _, _ = stand
+    # A broken stand has no note, and nothing is done any more behind it.
+    if note == "":
+        return None
+    return book.machine.result(note, where, (form[0] + pair[0], form[1] + pair[1]))
+
+
 def is_final(book, value):
     """Whether the value is a final stand."""
-    return is_stand(book, value) and _is_at_end(value)
+    return is_stand(book, value) and is_at_end(value)
 
 
-def _is_at_end(stand):
+def is_at_end(stand):
     """Whether the old row has ended in a stand, and nothing comes to a further level."""
     return stand[0] == "" and stand[1] == (0, 0)
 
@@ -101,13 +107,13 @@ class Table:
         check_deed(deed)
         self._book = book
         self._kind = deed
-        self._start = _start(book, deed)
+        self._start = first_stand(book, deed)
         self._ways, back = _explored(book, deed, self._start)
-        live = reached([stand for stand in self._ways if _is_at_end(stand)], back)
+        live = reached([stand for stand in self._ways if is_at_end(stand)], back)
         # The start belongs to the table also if no deed can be done.
         self._held = {stand: True for stand in sorted(self._ways) if stand in live or stand == self._start}
         self._stands = tuple(list(self._held))
-        self._finals = tuple([stand for stand in self._stands if _is_at_end(stand)])
+        self._finals = tuple([stand for stand in self._stands if is_at_end(stand)])
         self._wrong = tuple([stand for stand in self._finals if not stand[4]])
 
     @property

@@ -61,7 +61,13 @@ def broken_at(book, row, deed):
 
 def touched(book, row, deed):
     """The levels that the deed touches, ascending."""
-    done = steps(book, row, deed)
+    check_deed_in_row(book, row, deed)
+    return levels_touched(book, row, deed)
+
+
+def levels_touched(book, row, deed):
+    """The levels that a deed touches that can be done in a right row, ascending."""
+    done = book.passage(row, deed)[1]
     return tuple([level for level in range(len(done)) if _is_touched(row, done, level)])
 
 

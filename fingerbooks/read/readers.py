@@ -6,7 +6,7 @@ from fingerbooks.errors import InvalidOperation, InvalidReader
 from fingerbooks.read.lines import are_ascending_names, gathered, told_by_reader_line
 from fingerbooks.read.merging import merged, needed_reads
 from fingerbooks.read.pairing import lines_of_both
-from fingerbooks.read.ways import forms_along, shortest_ways
+from fingerbooks.read.ways import forms_along, reached, shortest_ways
 
 MAX_STATES = 6
 MAX_READS = 60
@@ -28,6 +28,7 @@ class Reader:
         )
         needed = needed_reads(first, ends, reads)
         self._spare = tuple([place for place in self._reads if place not in needed])
+        self._going_on = _states_going_on(ends, reads)
         self._onward = {
             state: tuple([(form, after) for (ahead, form), after in self._reads.items() if ahead == state])
             for state in self._states
@@ -81,6 +82,10 @@ class Reader:
     def onward(self, state):
         """The pairs of a form and the next state for the lines of a state, ascending; () for what is no state."""
         return self._onward.get(state, ())
+
+    def goes_on(self, state):
+        """Whether lines lead from a state to one that ends, one line at least."""
+        return state in self._going_on
 
     def behind(self, forms):
         """The state to which a tuple of forms leads, the empty string if lines do not lead along them."""
@@ -163,6 +168,14 @@ def _states_of(first, ends, reads):
     """All states that are named, ascending."""
     named = [first] + list(ends) + [state for state, _ in reads] + list(reads.values())
     return tuple(sorted(set(named)))
+
+
+def _states_going_on(ends, reads):
+    """The states from which lines lead to one that ends, one line at least, as a dict of True."""
+    back = {}
+    for (state, _), after in reads.items():
+        back.setdefault(after, []).append(state)
+    return reached([state for (state, _), after in reads.items() if after in ends], back)
 
 
 def is_including(one, other):
