@@ -7,6 +7,7 @@ from fingerbooks import errors
 KEPT = {
     errors.ParseError: "number", errors.UnknownName: "word", errors.EmptySequence: "tried",
     errors.InvalidNumber: "value", errors.NothingToUndo: "many", errors.TooMany: "limit", errors.Broken: "row",
+    errors.Refused: "pledge",
 }
 _ANYTHING = object()
 

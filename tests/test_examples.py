@@ -4,13 +4,20 @@ import unittest
 
 from fingerbooks.base import forms, words
 from fingerbooks.book import books, pages
-from fingerbooks.decide import churn, levels, papers, plans, tables
+from fingerbooks import errors
+from fingerbooks.decide import churn, levels, papers, plans, prices, tables
 from fingerbooks.deeds import rows
 from fingerbooks.read import depth, readers
 from fingerbooks.seq import places, sequences
+from fingerbooks.text import shell, texts
+from fingerbooks.use import bench
 from tests.books import PAIRS, TIGHT
+from tests.checks import check_raises
 
-MODULES = (words, forms, readers, pages, books, depth, rows, places, sequences, tables, papers, levels, plans, churn)
+MODULES = (
+    words, forms, readers, pages, books, depth, rows, places, sequences, tables, papers, levels, plans, churn, prices,
+    bench, texts, shell,
+)
 
 # Pairs of what is asked and the answer; what has no answer gives names to values for what follows.
 EXAMPLES = (
@@ -186,6 +193,52 @@ EXAMPLES = (
         'is_churning(TIGHT, ("pushl", "popl"), ((2, 1), (2, 2)))]',
         "[5, None, True]",
     ),
+    ("side = (0, 1, 0, 1)", None),
+    ("steady = {(left, right): side[left] + side[right] for left in range(4) for right in range(4)}", None),
+    (
+        '[[least_price(PAIRS, deed, steady) for deed in DEEDS], least_price(TIGHT, "pushl", {}), '
+        'price_of(PAIRS, ((3, 1),), "pushl", steady)]',
+        "[[2, 2, 2, 2], None, 2]",
+    ),
+    (
+        '[price_paper(PAIRS)[0], price_paper(TIGHT)[0], is_price_paper(PAIRS, ("price", 1, steady, 2)), '
+        'is_price_paper(PAIRS, ("price", 1, steady, 1))]',
+        "['price', 'rings', True, False]",
+    ),
+    (
+        '[potential_of(steady, ((3, 1), (0, 2))), dear_row(PAIRS, "pushl", steady, 1), '
+        'dear_row(PAIRS, "pushl", steady, 2)]',
+        "[2, (), None]",
+    ),
+    ("bench = Bench(TIGHT)", None),
+    ('[bench.demand(("good", "pushl")), str(bench)]', "[(), 'bench with 41 lines, 1 pledges']"),
+    ('bench.demand(("back", ("pushr",) * 2))', "raises Refused"),
+    (
+        '[bench.loss("page m last 3.0 to 1.2 pass 0.0 then m"), '
+        'bench.erase("page m inner 0.2 to 2.2 pass -1.0 then m")]',
+        "[('pushl',), (('popl', False),)]",
+    ),
+    (
+        '[read_pledge("levels popl 3"), write_pledge(("calm", ("pushl", "popl"))), bench.undo(), '
+        '("good", "pushl") in bench]',
+        "[('levels', 'popl', 3), 'calm pushl+popl', (('popl', True),), True]",
+    ),
+    (
+        '[write_stand(start_of(PAIRS, "popl")), read_stand(". 0.0 m . yes"), write_plan(("pushl", "popl")), '
+        'write_paper(paper(less, "popl"))]',
+        "['s -1.0 m s yes', ('', (0, 0), 'm', '', True), 'pushl+popl', 'bad\\n0.1']",
+    ),
+    ("shell = Shell(write_book(PAIRS))", None),
+    (
+        '[shell(f"pushr {number}") for number in (4, -5, 6, 7, 8, 9)][3:] + '
+        '[shell("content"), shell("place 2"), shell("at 3"), shell("do popl in 1.1 0.1")]',
+        "['2.2', '2.3', '2.2 0.1', '4 -5 6 7 8 9', '1 right 0 0', '7', '2.1']",
+    ),
+    (
+        '[shell("good popl"), shell("demand good popl"), shell("erase page m last -1.1 to 0.0 pass 0.0 then m"), '
+        'shell("touched popl in 1.1 0.1"), shell("fly"), len(shell)]',
+        "['yes', 'nothing', 'refused good popl', '0 1', 'what', 13]",
+    ),
 )
 
 
@@ -203,6 +256,8 @@ class Examples(unittest.TestCase):
             with self.subTest(asked=asked):
                 if answer is None:
                     exec(asked, names)
+                elif answer.startswith("raises "):
+                    check_raises(self, getattr(errors, answer[7:]), lambda: eval(asked, names))
                 else:
                     self.assertEqual(repr(eval(asked, names)), answer)
 

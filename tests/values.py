@@ -3,7 +3,13 @@
 from fingerbooks.decide.tables import Table
 from fingerbooks.errors import InvalidRow, ParseError, UnknownName
 from fingerbooks.seq.sequences import Sequence
+from fingerbooks.text.shell import Shell
+from fingerbooks.use.bench import Bench
 from tests.books import PAIRS
+
+# These two are equal to nothing but themselves.
+TRIAL = Bench(PAIRS).trial()
+SHELL = Shell("\n".join(PAIRS.lines))
 
 
 def nested(depth, inner, wrap):
@@ -29,4 +35,5 @@ def odd_values():
         InvalidRow("no row"), ParseError(None), UnknownName([1]), (InvalidRow("no row"),), [ParseError(3)],
         PAIRS, PAIRS.reader, PAIRS.machine, PAIRS.machine.pages[0], Sequence(PAIRS, (1, 2, 3)), Table(PAIRS, "popl"),
         (PAIRS, PAIRS.reader), [PAIRS.machine], {"s": PAIRS},
+        Bench(PAIRS), (Bench(PAIRS), 1), TRIAL, SHELL,
     ]

@@ -77,6 +77,11 @@ def pair_of(text):
 def write_row(row):
     """The text of a row, like 2.3 1.0, and - for the empty one."""
     check_row(row)
+    return text_of_row(row)
+
+
+def text_of_row(row):
+    """What write_row tells, for a row of any number of levels."""
     if row == ():
         return "-"
     return " ".join([f"{left}.{right}" for left, right in row])

@@ -1,0 +1,1 @@
+"""Texts of books, stands, plans and papers, and a shell of commands."""

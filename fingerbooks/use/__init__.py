@@ -1,0 +1,1 @@
+"""Books that are worked on, and what is pledged of them."""
