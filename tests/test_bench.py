@@ -24,7 +24,8 @@ from tests.values import odd_values
 FETCH = "page m inner 0.2 to 2.2 pass -1.0 then m"
 EMPTIED = "page m last -1.1 to 0.0 pass 0.0 then m"
 TEXTS = (
-    (("good", "popl"), "good popl"), (("levels", "popl", 3), "levels popl 3"), (("levels", "pushr", 0), "levels pushr 0"),
+    (("good", "popl"), "good popl"), (("levels", "popl", 3), "levels popl 3"),
+    (("levels", "pushr", 0), "levels pushr 0"),
     (("levels", "pushr", 10 ** 60 - 1), "levels pushr " + "9" * 60), (("back", ("pushl", "popl")), "back pushl+popl"),
     (("back", ("popr",)), "back popr"), (("calm", ("pushl", "popl")), "calm pushl+popl"),
     (("calm", ("pushl",) * 4), "calm pushl+pushl+pushl+pushl"),
@@ -37,9 +38,11 @@ NO_PLEDGES = (
     ("calm",), ("bad", "popl"), (("good", "popl"),), ("good", ("popl",)), ("levels", ("popl",), 3),
 )
 NO_TEXTS = (
-    None, "", "good", "good ", "good pop", "good  popl", " good popl", "good popl ", "good popl\n", "Good popl", "good popl 1",
+    None, "", "good", "good ", "good pop", "good  popl", " good popl", "good popl ", "good popl\n", "Good popl",
+    "good popl 1",
     "levels popl", "levels popl -1", "levels popl 03", "levels popl +3", "levels popl 3 4", "levels popl " + "9" * 61,
-    "levels popl -0", "levels popl x", "back", "back ", "back pushl +popl", "back pushl+", "back +popl", "back pushl+pop",
+    "levels popl -0", "levels popl x", "back", "back ", "back pushl +popl", "back pushl+", "back +popl",
+    "back pushl+pop",
     "back pushl popl", "back " + "+".join(["popl"] * 5), "calm", "calm pushl,popl", ("good", "popl"), 1, ["good popl"],
 )
 
@@ -218,7 +221,9 @@ class Changes(unittest.TestCase):
         before = told_of(bench)
         for line in ("", "fly", "page m", None, 1, ("arity 2",), "read s 8.1 o", "arity 4"):
             check_raises(self, ParseError, lambda: bench.draw(line), None)
-        for line in ("", "fly", None, 1, "arity 2", "first s", "start popl m", FETCH + " ", ["arity 2"], "read s 7.7 o"):
+        for line in (
+            "", "fly", None, 1, "arity 2", "first s", "start popl m", FETCH + " ", ["arity 2"], "read s 7.7 o",
+        ):
             check_raises(self, UnknownName, lambda: bench.erase(line), line)
             check_raises(self, UnknownName, lambda: bench.loss(line), line)
         check_raises(self, InvalidReader, lambda: bench.draw("first e"))
@@ -328,7 +333,8 @@ class Undoing(unittest.TestCase):
         bench.undo(many=3)
         for call, error in (
             (lambda: bench.draw("fly"), ParseError), (lambda: bench.erase("fly"), UnknownName),
-            (lambda: bench.demand(("good", "popl")), Refused), (lambda: bench.waive(("good", "popl")), InvalidOperation),
+            (lambda: bench.demand(("good", "popl")), Refused),
+            (lambda: bench.waive(("good", "popl")), InvalidOperation),
             (lambda: bench.undo(many=3), NothingToUndo), (lambda: bench.undo(many=-1), InvalidNumber),
             (lambda: bench.erase("page m last 3.0 to 1.2 pass 0.0 then m"), Refused),
         ):

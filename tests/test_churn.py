@@ -114,7 +114,7 @@ class Bounds(unittest.TestCase):
 
     def test_of_the_document(self):
         self.assertEqual(
-            [churn_bound(PAIRS, ("pushl", "popl")), churn_bound(TIGHT, ("pushl", "popl")), churn_bound(TIGHT, ("pushl",))],
+            [churn_bound(book, ("pushl", "popl")) for book in (PAIRS, TIGHT)] + [churn_bound(TIGHT, ("pushl",))],
             [1, None, 0],
         )
         self.assertEqual(length_of(2, churning_row(TIGHT, ("pushl", "popl"), 2)), 5)

@@ -184,7 +184,8 @@ EXAMPLES = (
         "[None, 5, None]",
     ),
     (
-        '[churn_bound(PAIRS, ("pushl", "popl")), churn_bound(TIGHT, ("pushl", "popl")), churn_bound(TIGHT, ("pushl",))]',
+        '[churn_bound(PAIRS, ("pushl", "popl")), churn_bound(TIGHT, ("pushl", "popl")), '
+        'churn_bound(TIGHT, ("pushl",))]',
         "[1, None, 0]",
     ),
     ('churning = churning_row(TIGHT, ("pushl", "popl"), 2)', None),

@@ -38,7 +38,8 @@ class Greatest(unittest.TestCase):
             for deed in DEEDS:
                 done = [deed_done(book, row, deed)[1] for row in rows if can_be_done(row, deed)]
                 for function, greatest in (
-                    (most_touched, max(map(len, done), default=0)), (most_reached, max([0] + [t[-1] + 1 for t in done])),
+                    (most_touched, max(map(len, done), default=0)),
+                    (most_reached, max([0] + [t[-1] + 1 for t in done])),
                 ):
                     found = function(book, deed)
                     self.assertTrue(found is None or (type(found) is int and found >= greatest))

@@ -4,7 +4,6 @@ import itertools
 import random
 import unittest
 
-from fingerbooks.base.forms import trimmed
 from fingerbooks.book.books import DEEDS, Book
 from fingerbooks.decide import papers, tables
 from fingerbooks.decide.papers import is_good, is_paper, least_bad, paper, row_along, stands_of
@@ -13,10 +12,9 @@ from fingerbooks.errors import EmptySequence, InvalidBook, InvalidOperation, Inv
 from fingerbooks.read.readers import Reader
 from tests.books import LESS, PAIRS, STARTS, TIGHT, TRIPLES, plain, right_rows, size, wide
 from tests.checks import check_first_error, check_raises
-from tests.trying import EMPTY, FLAT, LOOSE, can_be_done, check_least, deed_done, rows_up_to, some_books
+from tests.trying import EMPTY, FLAT, LOOSE, can_be_done, check_least, deed_done, rows_up_to, some_books, stands_along
 from tests.values import odd_values
 
-PAIR_OF = {"pushl": (1, 0), "pushr": (0, 1), "popl": (-1, 0), "popr": (0, -1)}
 NO_BOOKS = [(value, InvalidBook) for value in (None, PAIRS.reader, PAIRS.lines, "book", 2)]
 NO_DEEDS = [(value, InvalidOperation) for value in ("", "push", "Popl", None, 0, ("popl",), ["popl"])]
 
@@ -26,22 +24,6 @@ def fails(book, deed, row):
         return False
     new = deed_done(book, row, deed)[0]
     return new is None or not book.is_right(new)
-
-
-def stands_by_hand(book, row, deed):
-    """The stands of a deed in a row, told from what the machine does as [0.17] tells it."""
-    done = book.machine.run(book.starts[deed], PAIR_OF[deed], row)[1]
-    found = [(book.reader.first, PAIR_OF[deed], book.starts[deed], book.reader.first, True)]
-    forms = ()
-    for level in range(max(len(row), len(done))):
-        state = book.reader.behind(row[:level + 1]) if level + 1 < len(row) else ""
-        if level < len(done) and done[level][2] is not None:
-            form, pair, note = done[level][2]
-            forms += (form,)
-            found.append((state, pair, note, book.reader.behind(forms), book.is_right(trimmed(forms))))
-        else:
-            found.append((state, (0, 0), "", "", False))
-    return tuple(found)
 
 
 def can_go_on(book, stand, memo):
@@ -265,7 +247,7 @@ class Stands(unittest.TestCase):
             for row, deed in itertools.product(right_rows(book.reader, 3)[:60], DEEDS):
                 if can_be_done(row, deed):
                     found = stands_of(book, row, deed)
-                    self.assertEqual(found, stands_by_hand(book, row, deed))
+                    self.assertEqual(found, tuple(stands_along(book, row, deed)))
                     self.assertIs(is_final(book, found[-1]), True)
                     broken += found[-1][2] == ""
         self.assertGreater(broken, 500)

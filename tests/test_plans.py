@@ -187,7 +187,7 @@ class Edges(unittest.TestCase):
             courses.MAX_NODES = kept
 
     def test_more_than_20000_things_matter(self):
-        # Nearly all rows are right, and at each level any bundles can come to it, with two notes, for each of the deeds.
+        # Nearly all rows are right, and any bundles can come to each level, with two notes, for each of the deeds.
         book = loose_book(random.Random(54), 2, 3, 200)
         check_raises(self, TooMany, lambda: unlike_row(book, DEEDS, DEEDS[::-1]), 20000)
 

@@ -23,14 +23,21 @@ from tests.values import odd_values
 
 EMPTIED = "page m last -1.1 to 0.0 pass 0.0 then m"
 NO_COMMANDS = (
-    "", " ", "fly", "Draw", "draw", "erase", "demand", "waive", "undo 1", "undo ", " undo", "redo 1", "lines ", "lines all",
-    "pledges ", "good", "good ", "good pop", "good popl ", "good  popl", "good popl popr", "table", "table pop", "paper",
+    "", " ", "fly", "Draw", "draw", "erase", "demand", "waive", "undo 1", "undo ", " undo", "redo 1", "lines ",
+    "lines all",
+    "pledges ", "good", "good ", "good pop", "good popl ", "good  popl", "good popl popr", "table", "table pop",
+    "paper",
     "paper none", "do", "do popl", "do popl in", "do popl in ", "do popl 1.1", "do popl in 1.1 in 0.1", "do pop in 1.1",
-    "do popl in 1.1 0.0", "do popl in 8.1", "do popl in  1.1", "do in 1.1", "do  in 1.1", "do popl in ()", "do popl on -",
-    "touched popl", "touched popl in x", "touched in -", "pushl", "pushl ", "pushl x", "pushl 1 2", "pushl +1", "pushl 01",
-    "pushl -0", "pushl 1.0", "pushl " + "1" * 61, "pushr", "pushr True", "popl 1", "popl ", "popr 1", "clear all", "clear ",
-    "content ", "content 1", "at", "at ", "at -1", "at x", "at 01", "at " + "9" * 61, "at 1 2", "place", "place -1", "place x",
-    "demand good", "demand fly", "demand good pop", "waive good", "waive levels popl", "demand levels popl -1", "undo\n",
+    "do popl in 1.1 0.0", "do popl in 8.1", "do popl in  1.1", "do in 1.1", "do  in 1.1", "do popl in ()",
+    "do popl on -",
+    "touched popl", "touched popl in x", "touched in -", "pushl", "pushl ", "pushl x", "pushl 1 2", "pushl +1",
+    "pushl 01",
+    "pushl -0", "pushl 1.0", "pushl " + "1" * 61, "pushr", "pushr True", "popl 1", "popl ", "popr 1", "clear all",
+    "clear ",
+    "content ", "content 1", "at", "at ", "at -1", "at x", "at 01", "at " + "9" * 61, "at 1 2", "place", "place -1",
+    "place x",
+    "demand good", "demand fly", "demand good pop", "waive good", "waive levels popl", "demand levels popl -1",
+    "undo\n",
     "good popl\n", "POPL", "pop", "push", "in", " in ", "what", "bench", "sequence", "answer",
 )
 
@@ -55,8 +62,8 @@ class Made(unittest.TestCase):
 
     def test_errors(self):
         lines = list(PAIRS.lines)
-        for value, error, kept in ((None, ParseError, None), ("", ParseError, 0), ("\n".join(lines + ["x"]), ParseError, 63)):
-            check_raises(self, error, lambda: Shell(value), kept)
+        for value, kept in ((None, None), ("", 0), ("\n".join(lines + ["x"]), len(lines))):
+            check_raises(self, ParseError, lambda: Shell(value), kept)
         check_raises(self, InvalidBook, lambda: Shell("\n".join(lines[1:])))
         check_raises(self, InvalidReader, lambda: Shell("\n".join(lines[:1] + lines[2:])))
         check_raises(self, InvalidPage, lambda: Shell("\n".join(["arity 3"] + lines[1:])))
@@ -161,7 +168,8 @@ class Commands(unittest.TestCase):
     def test_the_sequence(self):
         shell = shell_of(PAIRS)
         self.check(
-            shell, ("content", "nothing"), ("popl", "empty"), ("popr", "empty"), ("at 0", "number"), ("place 0", "number"),
+            shell, ("content", "nothing"), ("popl", "empty"), ("popr", "empty"), ("at 0", "number"),
+            ("place 0", "number"),
             ("pushl 7", "1.0"), ("place 0", "0 left 0"), ("pushr -8", "1.1"), ("pushl 0", "2.1"), ("content", "0 7 -8"),
             ("at 2", "-8"), ("at 3", "number"), ("place 3", "number"), ("place 2", "0 right 0"), ("popl", "1.1"),
             ("popr", "1.0"), ("popl", "-"), ("content", "nothing"), ("pushl " + "9" * 60, "1.0"), ("at 0", "9" * 60),

@@ -4,7 +4,6 @@ import itertools
 import random
 import unittest
 
-from fingerbooks.base.forms import trimmed
 from fingerbooks.book.books import DEEDS, Book
 from fingerbooks.decide import tables
 from fingerbooks.decide.tables import Table, is_final, is_stand, moves, start_of
@@ -13,9 +12,9 @@ from fingerbooks.errors import InvalidBook, InvalidOperation, TooMany
 from fingerbooks.read.readers import Reader
 from tests.books import LESS, PAIRS, STARTS, TIGHT, TRIPLES, changed_book, plain, random_book, right_rows, wide
 from tests.checks import check_first_error, check_raises
+from tests.trying import PAIR_OF, stands_along
 from tests.values import odd_values
 
-PAIR_OF = {"pushl": (1, 0), "pushr": (0, 1), "popl": (-1, 0), "popr": (0, -1)}
 LOOSE = PAIRS.without("page m inner 0.2 to 2.2 pass -1.0 then m")
 NO_BOOKS = [(value, InvalidBook) for value in (None, PAIRS.reader, PAIRS.lines, "book", 2)]
 NO_DEEDS = [
@@ -57,22 +56,6 @@ def some_books():
     found = [PAIRS, TIGHT, LESS, LOOSE, TRIPLES, wide(), wide().mirrored()]
     found += [changed_book(rng, rng.choice((PAIRS, TIGHT, TRIPLES, wide())), rng.randint(1, 10)) for _ in range(25)]
     return found + [random_book(rng, rng.choice((2, 3)), rng.sample(forms, 4), 150) for _ in range(30)]
-
-
-def stand_along(book, row, deed):
-    """The stands of a deed in a row, told from what the machine does as [0.17] tells it."""
-    done = book.machine.run(book.starts[deed], PAIR_OF[deed], row)[1]
-    found = [(book.reader.first, PAIR_OF[deed], book.starts[deed], book.reader.first, True)]
-    forms = ()
-    for level in range(max(len(row), len(done))):
-        state = book.reader.behind(row[:level + 1]) if level + 1 < len(row) else ""
-        if level < len(done) and done[level][2] is not None:
-            form, pair, note = done[level][2]
-            forms += (form,)
-            found.append((state, pair, note, book.reader.behind(forms), book.is_right(trimmed(forms))))
-        else:
-            found.append((state, (0, 0), "", "", False))
-    return found
 
 
 def moves_by_hand(book, deed, stand):
@@ -330,7 +313,7 @@ class Tables(unittest.TestCase):
                 for row in rows[:400]:
                     if row == () and deed.startswith("pop"):
                         continue
-                    stands = stand_along(book, row, deed)
+                    stands = stands_along(book, row, deed)
                     self.assertLessEqual(set(stands), held)
                     self.assertIn(stands[-1], table.finals)
                     self.assertIs(is_done(book, row, deed), stands[-1][4])
@@ -348,7 +331,7 @@ class Tables(unittest.TestCase):
                     way = table.way_to(stand) + self.way_on(book, deed, stand)
                     row = tuple(form for where, form, _ in way if where != "new")
                     self.assertTrue(book.is_right(row))
-                    self.assertEqual([start_of(book, deed)] + [move[2] for move in way], stand_along(book, row, deed))
+                    self.assertEqual([start_of(book, deed)] + [move[2] for move in way], stands_along(book, row, deed))
 
     def way_on(self, book, deed, stand):
         """Moves from a stand to a final one."""
@@ -499,8 +482,8 @@ class Tables(unittest.TestCase):
         for _ in range(100):
             row = tuple((rng.randint(1, 5), rng.randint(1, 5)) for _ in range(4))
             if book.is_right(row):
-                self.assertLessEqual(set(stand_along(book, row, "pushl")), set(table))
-                self.assertEqual(stand_along(book, row, "pushl")[-1][4], book.is_right(new_row(book, row, "pushl")))
+                self.assertLessEqual(set(stands_along(book, row, "pushl")), set(table))
+                self.assertEqual(stands_along(book, row, "pushl")[-1][4], book.is_right(new_row(book, row, "pushl")))
 
     def test_equality(self):
         table = Table(PAIRS, "pushl")

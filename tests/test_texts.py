@@ -36,14 +36,16 @@ NO_STANDS = (
     ("s", (0, 0), "m", None, True), ("s", (0, 0), 1, "o", True), ("s", (0, 0), "m", "o", True, True),
 )
 NO_STAND_TEXTS = (
-    "", "s", "s -1.0 m o", "s -1.0 m o yes yes", " s -1.0 m o yes", "s -1.0 m o yes ", "s  -1.0 m o yes", "s -1.0 m o Yes",
+    "", "s", "s -1.0 m o", "s -1.0 m o yes yes", " s -1.0 m o yes", "s -1.0 m o yes ", "s  -1.0 m o yes",
+    "s -1.0 m o Yes",
     "s -1.0 m o y", "s -1.0 m o True", "s -3.0 m o yes", "s 0.3 m o yes", "s -0.0 m o yes", "s 01.0 m o yes",
     "s 1 m o yes", "s 1.0.0 m o yes", "S -1.0 m o yes", "abcdefghi 0.0 m o yes", "s -1.0 m o yes\n", "s -1.0\tm o yes",
     "s 0.1 . . no", "s 0.0 . o no", "s 0.0 . . yes", " -1.0 m o yes", "s -1.0 m  yes", "s . m o yes", ".. 0.0 m o yes",
 )
 NO_PLANS = ((), ("pushl",) * 5, ["pushl"], "pushl", ("push",), None, (("pushl",),), ("pushl", None))
 NO_PLAN_TEXTS = (
-    "", "+", "push", "pushl+", "+pushl", "pushl++popl", "pushl popl", "pushl+ popl", "pushl+popl\n", "Pushl", "pushl,popl",
+    "", "+", "push", "pushl+", "+pushl", "pushl++popl", "pushl popl", "pushl+ popl", "pushl+popl\n", "Pushl",
+    "pushl,popl",
     "+".join(["pushl"] * 5), "pushl+popl+",
 )
 A_STAND, ANOTHER = ("", (0, 0), "m", "e", True), ("s", (1, 0), "m", "s", True)
@@ -190,7 +192,8 @@ class Papers(unittest.TestCase):
             ("", 0), ("Good", 0), ("good ", 0), (one, 0), ("bad ", 0), ("\ngood", 0), ("0.1", 0), ("good" + one, 0),
             ("good\n", 1), ("good\nfly", 1), (f"good\n{one}\n{one}", 2), (f"good\n{other}\n{one}", 2),
             (f"good\n{one}\n", 2), (f"good\n{one}\n{other}\n", 3), (f"good\n{one}\n{other}\n{other}", 3),
-            (f"good\n{one}\nfly\nfly", 2), ("good\n0.1", 1), ("bad", 1), ("bad\n", 1), ("bad\nfly", 1), ("bad\n1.1 0.0", 1),
+            (f"good\n{one}\nfly\nfly", 2), ("good\n0.1", 1), ("bad", 1), ("bad\n", 1), ("bad\nfly", 1),
+            ("bad\n1.1 0.0", 1),
             ("bad\n8.1", 1), ("bad\n0.1\n", 2), ("bad\n0.1\n0.1", 2), ("bad\n-\n-", 2), ("bad\nfly\nfly", 1),
             (f"bad\n{one}", 1), ("bad\n" + " ".join(["1.1"] * 201), 1), ("bad\n 0.1", 1),
         ):

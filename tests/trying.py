@@ -2,11 +2,13 @@
 
 import random
 
+from fingerbooks.base.forms import trimmed
 from fingerbooks.book.books import DEEDS, Book
 from fingerbooks.book.pages import Machine, Page
 from fingerbooks.read.readers import Reader
 from tests.books import FORMS, LESS, PAIRS, TIGHT, TRIPLES, changed_book, plain, random_book, size, wide
 
+PAIR_OF = {"pushl": (1, 0), "pushr": (0, 1), "popl": (-1, 0), "popr": (0, -1)}
 LOOSE = PAIRS.without("page m inner 0.2 to 2.2 pass -1.0 then m")
 # Every form is right that PAIRS could have, and nothing goes inward, so deeds touch level 0 alone, and fail at its end.
 FLAT = Book.from_lines(
@@ -18,7 +20,7 @@ EMPTY = plain(Reader("s", ("e",), {("s", (1, 1)): "o", ("o", (1, 1)): "o"}))
 
 
 def loose_book(rng, arity, greatest=2, pages=80):
-    """A book by chance that takes nearly all rows of small forms, so that rows become shorter and longer in many ways."""
+    """A book by chance that takes nearly all rows of small forms, which become shorter and longer in many ways."""
     forms = [(left, right) for left in range(greatest + 1) for right in range(greatest + 1)]
     reads = {}
     for state in "szb":
@@ -70,14 +72,29 @@ def rows_up_to(book, most, many=1000):
     return sorted(found, key=lambda row: size(book.arity, row))[:many]
 
 
+def stands_along(book, row, deed):
+    """The stands of a deed in a row, told from what the machine does as [0.17] tells it."""
+    done = book.machine.run(book.starts[deed], PAIR_OF[deed], row)[1]
+    found = [(book.reader.first, PAIR_OF[deed], book.starts[deed], book.reader.first, True)]
+    forms = ()
+    for level in range(max(len(row), len(done))):
+        state = book.reader.behind(row[:level + 1]) if level + 1 < len(row) else ""
+        if level < len(done) and done[level][2] is not None:
+            form, pair, note = done[level][2]
+            forms += (form,)
+            found.append((state, pair, note, book.reader.behind(forms), book.is_right(trimmed(forms))))
+        else:
+            found.append((state, (0, 0), "", "", False))
+    return found
+
+
 def can_be_done(row, deed):
     return row != () or deed.startswith("push")
 
 
 def deed_done(book, row, deed):
     """The new row of a deed in a right row, None if it breaks, and the levels that it touches."""
-    pair = {"pushl": (1, 0), "pushr": (0, 1), "popl": (-1, 0), "popr": (0, -1)}[deed]
-    new, steps = book.machine.run(book.starts[deed], pair, row)
+    new, steps = book.machine.run(book.starts[deed], PAIR_OF[deed], row)
     touched = []
     for level, (_, raw, result) in enumerate(steps):
         old = row[level] if level < len(row) else (0, 0)

@@ -50,7 +50,8 @@ class Course:
         numbers = {node: number for number, node in enumerate(self.nodes)}
         at = 0
         while at < len(self.nodes):
-            for node, form in _followers(book, self.nodes[at], mark_behind).items():
+            followers = _followers(book, self.nodes[at], mark_behind)
+            for node, form in followers.items():
                 if node not in numbers:
                     numbers[node] = len(self.nodes)
                     self.nodes.append(node)

@@ -1,8 +1,9 @@
 """Rows of least length in which a deed has a high price."""
 
-from fingerbooks.base.forms import MAX_LEVELS, MAX_SIDE
+from fingerbooks.base.forms import MAX_LEVELS
 
-_MAX_BUNDLES = 2 * MAX_SIDE
+# A level has at most seven bundles at each of its sides.
+_MAX_BUNDLES = 14
 
 
 class Prices:

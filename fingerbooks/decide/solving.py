@@ -1,5 +1,8 @@
 """Least numbers that meet demands, without any loss."""
 
+# So many exchanges are chosen for what they bring; then such that no choice comes again, as this comes to an end.
+_MANY_EXCHANGES = 500
+
 
 class Demands:
     """Numbers of at least 0, with as small a sum as possible, and demands that sums of multiples of them be great.
@@ -35,23 +38,26 @@ class Demands:
 
         Then the sum of what is demanded is above 0, and no number has a multiple above 0 in the sum of the others.
         """
+        exchanges = 0
         while True:
-            at = self._unmet()
+            at = self._unmet(exchanges < _MANY_EXCHANGES)
             if at is None:
                 return ()
             column = self._helping(at)
             if column is None:
                 return self._counts(at)
             self._exchange(at, column)
+            exchanges += 1
 
-    def _unmet(self):
-        """Where a basic number is below 0, None if there is none."""
-        # The one with the least name is taken here and below, so that no choice comes again.
-        below = [(name, at) for at, name in enumerate(self._basics) if self._rows[at][0] < 0]
-        return min(below)[1] if below != [] else None
+    def _unmet(self, is_least):
+        """Where a basic number is below 0: the least number, or the one with the least name; None if there is none."""
+        below = [(self._rows[at][0] if is_least else 0, name, at) for at, name in enumerate(self._basics)
+                 if self._rows[at][0] < 0]
+        return min(below)[2] if below != [] else None
 
     def _helping(self, at):
         """The column of a number that makes a basic one greater, and costs least for this; None if there is none."""
+        # Of several ones that with the least name is taken.
         row = self._rows[at]
         best = None
         for name, column in sorted([(name, column) for column, name in enumerate(self._others, start=1)]):
