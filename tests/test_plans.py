@@ -168,6 +168,62 @@ class Edges(unittest.TestCase):
         self.assertEqual(failing_row(book, ("pushl", "popl")), ((2, 0),))
         self.assertNotEqual(straying_row(book, ("pushl", "popl")), ((2, 0),))
 
+    def test_a_row_that_may_go_on_but_has_ended(self):
+        # A take fetches through an empty level all that is there, so the new row ends two levels further out. It would
+        # not be right if it had an empty level there, but it has none.
+        book = Book.from_lines(
+            "arity 2", "first s", "ends e q", "read s 1.1 p", "read p 0.0 z", "read z 0.1 e", "read q 1.1 e",
+            "read s 4.1 q", "read s 4.0 e", "read s 0.3 e", "read s 0.2 e", "read s 0.1 e",
+            *[f"start {deed} n" for deed in DEEDS], "page n inner 0.1 to 4.1 pass -2.0 then n",
+            "page n inner -2.0 to 0.0 pass -1.0 then n", "page n last -1.1 to 0.0 pass 0.0 then n",
+            "page n last 3.1 to 4.0 pass 0.0 then n", "page n last 3.0 to 0.3 pass 0.0 then n",
+            "page n last -1.3 to 0.2 pass 0.0 then n", "page n last -1.2 to 0.1 pass 0.0 then n",
+        )
+        row = ((1, 1), (0, 0), (0, 1))
+        self.assertEqual(outcome(book, ("popl",), row), ("done", ((4, 1),)))
+        self.assertEqual(failing_row(book, ("popl",)), ((4, 1), (1, 1)))
+        self.assertEqual(failing_row(book, ("popl",) * 4), ((4, 1), (1, 1)))
+        for plan in (("popl",), ("popl", "popl"), ("popl", "popl", "popl"), ("popl", "pushr")):
+            rows = rows_up_to(book, 12)
+            check_least(self, book, straying_row(book, plan), lambda row: strays(book, plan, row), rows)
+            check_least(self, book, failing_row(book, plan), lambda row: fails(book, plan, row), rows)
+            check_least(
+                self, book, unlike_row(book, plan, ("popl",)), lambda row: are_unlike(book, plan, ("popl",), row), rows,
+            )
+
+    def test_pages_for_new_levels(self):
+        # What comes to a new level is put to another side there by the note that is left.
+        book = PAIRS
+        for page in ("page m last 1.0 to 0.1 pass 0.0 then m", "page m last 0.1 to 1.0 pass 0.0 then m"):
+            book = book.with_line(page)
+        for plan in (("pushl",), ("pushl", "pushl"), ("pushr", "popl"), ("pushl", "popl", "pushl"), ("pushl",) * 4):
+            rows = rows_up_to(book, 12)
+            found = straying_row(book, plan), failing_row(book, plan), unlike_row(book, plan, plan[1:] + ("pushr",))
+            check_least(self, book, found[0], lambda row: strays(book, plan, row), rows)
+            check_least(self, book, found[1], lambda row: fails(book, plan, row), rows)
+            check_least(
+                self, book, found[2], lambda row: are_unlike(book, plan, plan[1:] + ("pushr",), row), rows,
+            )
+        # At a last level of 4.0 one bundle goes to a new level by one book, and stays there at the other side.
+        one = PAIRS.with_line("page m last 4.0 to 2.0 pass 1.0 then k")
+        other = one.with_line("page k last 1.0 to 0.1 pass 0.0 then m")
+        for book, behind in ((one, ((2, 0), (1, 0))), (other, ((2, 0), (0, 1)))):
+            self.assertEqual(outcome(book, ("pushl",), ((3, 0),))[0], "failed")
+            self.assertEqual(failing_row(book, ("pushl",)), ((3, 0),))
+            right = book.with_line("read s 2.0 o")
+            self.assertEqual(outcome(right, ("pushl",), ((3, 0),)), ("done", behind))
+            rows = rows_up_to(right, 10)
+            for plan in (("pushl", "popl"), ("pushl", "popr"), ("pushl", "pushl", "popl")):
+                check_least(self, right, straying_row(right, plan), lambda row: strays(right, plan, row), rows)
+                check_least(self, right, failing_row(right, plan), lambda row: fails(right, plan, row), rows)
+
+        # Here the row behind the put is right only if the bundle is put to the right side of the new level.
+        right = other.with_line("ends e o t").with_line("read s 2.0 t").with_line("read t 0.1 e")
+        self.assertEqual(outcome(right, ("pushl",), ((3, 0),)), ("done", ((2, 0), (0, 1))))
+        found = failing_row(right, ("pushl",))
+        check_least(self, right, found, lambda row: fails(right, ("pushl",), row), rows_up_to(right, 10))
+        self.assertEqual(size(2, found), 10)
+
     def test_plans_that_are_not_the_same_everywhere_but_alike(self):
         self.assertIs(are_alike(PAIRS, ("pushl",), ("pushl", "pushl", "popl")), False)
         self.assertIs(are_alike(LOOSE, ("popl", "pushl"), ("popl", "pushl")), True)
