@@ -245,6 +245,42 @@ class Classes(unittest.TestCase):
                         self.assertTrue(is_text(part.value), f"{path}:{part.lineno}")
 
 
+    def test_blocks_are_left_by_plain_assignments(self):
+        for path, node in nodes():
+            if isinstance(node, ast.FunctionDef) and node.name == "__exit__":
+                names = [argument.arg for argument in node.args.args]
+                self.assertEqual(names, ["self", "kind", "value", "trace"], path)
+                for statement in node.body:
+                    self.assertIsInstance(statement, ast.Assign, f"{path}:{statement.lineno}")
+                    self.assertIsNotNone(path_of(statement.value), f"{path}:{statement.lineno}")
+
+    def test_errors_that_are_handled_have_names_of_their_own(self):
+        for path, node in nodes():
+            if isinstance(node, ast.FunctionDef):
+                parts = list(ast.walk(node))
+                named = [part.name for part in parts if isinstance(part, ast.ExceptHandler) and part.name]
+                others = {part.arg for part in parts if isinstance(part, ast.arg)}
+                others |= {part.id for part in parts if isinstance(part, ast.Name) and isinstance(part.ctx, ast.Store)}
+                self.assertEqual(len(named), len(set(named)), f"{path}: {node.name}")
+                self.assertEqual(set(named) & others, set(), f"{path}: {node.name}")
+
+    def test_modules_have_plain_values_alone(self):
+        kinds = (
+            ast.Constant, ast.Tuple, ast.List, ast.Dict, ast.UnaryOp, ast.BinOp, ast.operator, ast.unaryop, ast.Load,
+        )
+        for path in files():
+            for statement in ast.parse(text_of(path)).body:
+                if isinstance(statement, ast.Assign):
+                    self.assertEqual([type(target) for target in statement.targets], [ast.Name], path)
+                    for part in ast.walk(statement.value):
+                        self.assertIsInstance(part, kinds, f"{path}:{statement.lineno}")
+                elif isinstance(statement, ast.Expr):
+                    self.assertIsInstance(statement.value.value, str, f"{path}:{statement.lineno}")
+                else:
+                    allowed = (ast.ImportFrom, ast.FunctionDef, ast.ClassDef)
+                    self.assertIsInstance(statement, allowed, f"{path}:{statement.lineno}")
+
+
 class Loops(unittest.TestCase):
     def test_nothing_is_changed_while_it_is_walked(self):
         for path, node in nodes():
