@@ -264,6 +264,14 @@ class Classes(unittest.TestCase):
                 self.assertEqual(len(named), len(set(named)), f"{path}: {node.name}")
                 self.assertEqual(set(named) & others, set(), f"{path}: {node.name}")
 
+    def test_plain_values_stand_behind_a_star(self):
+        for path, node in nodes():
+            if isinstance(node, ast.Call) and any(isinstance(part, ast.Starred) for part in node.args):
+                self.assertEqual(node.keywords, [], f"{path}:{node.lineno}")
+                for part in node.args:
+                    value = part.value if isinstance(part, ast.Starred) else part
+                    self.assertIsInstance(value, (ast.Name, ast.Constant), f"{path}:{node.lineno}")
+
     def test_modules_have_plain_values_alone(self):
         kinds = (
             ast.Constant, ast.Tuple, ast.List, ast.Dict, ast.UnaryOp, ast.BinOp, ast.operator, ast.unaryop, ast.Load,

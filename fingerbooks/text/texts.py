@@ -22,7 +22,8 @@ def write_book(book):
 def read_book(text):
     """The book with a text."""
     _check_text(text)
-    return Book.from_lines(*_lines_of(text))
+    lines = _lines_of(text)
+    return Book.from_lines(*lines)
 
 
 def _check_text(value):
