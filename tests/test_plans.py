@@ -12,7 +12,7 @@ from fingerbooks.errors import InvalidBook, InvalidOperation, TooMany
 from fingerbooks.read.readers import Reader
 from tests.books import LESS, PAIRS, STARTS, TIGHT, TRIPLES, plain, size, wide
 from tests.checks import check_first_error, check_raises
-from tests.trying import EMPTY, FLAT, LOOSE, check_least, loose_book, outcome, rows_up_to, some_books
+from tests.trying import EMPTY, FLAT, LOOSE, check_least, loose_book, outcome, rows_up_to, some_books, taking_book
 from tests.values import odd_values
 
 NO_BOOKS = [(value, InvalidBook) for value in (None, PAIRS.reader, PAIRS.lines, "book", 2)]
@@ -128,6 +128,46 @@ class Least(unittest.TestCase):
         self.assertIs(are_alike(PAIRS, ("pushl", "pushr") * 2, ("pushr", "pushl") * 2), False)
 
 
+def length_or_none(book, row):
+    return None if row is None else length_of(book.arity, row)
+
+
+class ByForce(unittest.TestCase):
+    def check_plans(self, book, one, other, rows):
+        """What is found for two plans is as short as any of all right rows up to a length; tells the lengths."""
+        straying, failing = straying_row(book, one), failing_row(book, one)
+        check_least(self, book, straying, lambda row: strays(book, one, row), rows)
+        check_least(self, book, failing, lambda row: fails(book, one, row), rows)
+        unlike, turned = unlike_row(book, one, other), unlike_row(book, other, one)
+        check_least(self, book, unlike, lambda row: are_unlike(book, one, other, row), rows)
+        self.assertEqual(length_or_none(book, unlike), length_or_none(book, turned))
+        check_least(self, book, turned, lambda row: are_unlike(book, one, other, row), rows)
+        return [length_or_none(book, row) for row in (straying, failing, unlike)]
+
+    def test_drawn_books_and_plans_of_two_and_three_deeds(self):
+        rng = random.Random(56)
+        lengths = {}
+        for _ in range(3000):
+            book = taking_book(rng)
+            # Far fewer than so many right rows of these books have a length up to 6, so these are all.
+            rows = rows_up_to(book, 6)
+            self.assertLess(len(rows), 1000)
+            for many in (2, 3):
+                one, other = [tuple(rng.choices(DEEDS, (1, 1, 3, 3), k=part)) for part in (many, rng.choice((2, 3)))]
+                for kind, length in enumerate(self.check_plans(book, one, other, rows)):
+                    lengths[kind, length] = lengths.get((kind, length), 0) + 1
+        for kind in range(3):
+            self.assertGreater(min(lengths[kind, length] for length in (None, 0, 1, 2, 3, 4)), 5, lengths)
+
+    def test_drawn_books_with_many_rows(self):
+        rng = random.Random(57)
+        for _ in range(60):
+            book = loose_book(rng, rng.choice((2, 3)), rng.choice((1, 2)), 40)
+            rows = rows_up_to(book, 6, 10 ** 6)
+            for many in (2, 3):
+                self.check_plans(book, tuple(rng.choices(DEEDS, k=many)), tuple(rng.choices(DEEDS, k=2)), rows)
+
+
 class Edges(unittest.TestCase):
     def test_the_empty_row(self):
         # A take cannot be done there, and so does not fail.
@@ -190,6 +230,37 @@ class Edges(unittest.TestCase):
             check_least(
                 self, book, unlike_row(book, plan, ("popl",)), lambda row: are_unlike(book, plan, ("popl",), row), rows,
             )
+
+    def test_a_deed_fetches_more_than_there_is_behind_a_level(self):
+        # In a row of two levels popl fetches four elements where there are two. So the row behind it, and the one that
+        # popr would make of it, will not be, although as many elements less two would be none at all.
+        book = Book.from_lines(
+            "arity 2", "first s", "ends o", "start pushl m", "start pushr n", "start popl t", "start popr u",
+            "read s 0.1 o", "read s 1.0 o", "read s 3.0 o", "read s 0.0 z", "read o 0.1 o", "read z 0.1 o",
+            "page t inner -1.0 to 3.0 pass -2.0 then t", "page u inner 0.-1 to 0.1 pass 0.-1 then u",
+            "page u inner 3.-1 to 3.1 pass 0.-1 then u", "page t last -1.1 to 0.0 pass 0.0 then t",
+            "page u last 1.-1 to 0.0 pass 0.0 then u", "page t last -1.2 to 0.1 pass 0.0 then t",
+            "page u last 2.-1 to 1.0 pass 0.0 then u",
+        )
+        row = ((0, 0), (0, 1))
+        plans_of_two = ("popl", "popr"), ("popr", "popl")
+        self.assertEqual([outcome(book, plan, row) for plan in plans_of_two], [("failed", None), ("done", ())])
+        self.assertEqual(unlike_row(book, *plans_of_two), row)
+        self.assertEqual(unlike_row(book, *plans_of_two[::-1]), row)
+        self.assertIs(are_alike(book, *plans_of_two), False)
+        self.assertIs(are_alike(book.mirrored(), ("popr", "popl"), ("popl", "popr")), False)
+
+    def test_a_deed_fails_ahead_of_one_that_fetches_too_much(self):
+        # In the empty row the second put makes a row that is not right, and a take from this row would break.
+        book = Book.from_lines(
+            "arity 2", "first s", "ends o", "start pushl t", "start pushr t", "start popl t", "start popr m",
+            "read s 0.0 z", "read s 1.0 o", "read s 1.2 o", "read z 4.2 o", "read o 4.2 o",
+            "page t inner -1.0 to 1.2 pass -1.-1 then m", "page t last 1.1 to 0.0 pass 0.1 then t",
+        )
+        plan = ("pushl", "pushr", "popl", "popr")
+        self.assertEqual(outcome(book, plan[:1], ()), ("done", ((1, 0),)))
+        self.assertEqual([outcome(book, plan[:many], ())[0] for many in (2, 3, 4)], ["failed"] * 3)
+        self.assertEqual([failing_row(book, plan[:many]) for many in (2, 3, 4)], [()] * 3)
 
     def test_pages_for_new_levels(self):
         # What comes to a new level is put to another side there by the note that is left.

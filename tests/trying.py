@@ -47,6 +47,34 @@ def loose_book(rng, arity, greatest=2, pages=80):
     return Book(Reader("s", ("b",), reads), Machine(arity, tuple(table.values())), starts)
 
 
+def taking_book(rng):
+    """A book by chance of few forms whose takes fetch more than there often is."""
+    arity = rng.choice((2, 2, 3))
+    great = [(left, right) for left in range(5) for right in range(3) if left + right > 1]
+    forms = [(0, 0), (0, 1), (1, 0)] + rng.sample(great, rng.choice((1, 2)))
+    reads = {}
+    for state in "soz":
+        for form in forms:
+            if rng.random() < 0.6:
+                reads[(state, form)] = "z" if form == (0, 0) else "o"
+    fetched = [(left, right) for left in range(-2, 1) for right in range(-2, 1)]
+    table = {}
+    for _ in range(60):
+        (left, right), (x, y) = rng.choice(forms), rng.choice(((-1, 0), (0, -1)))
+        raw, where = (left + x, right + y), rng.choice(("inner", "last"))
+        fits = [(form, (0, 0)) for form in forms if sum(form) == sum(raw)]
+        if where == "inner":
+            fits = [
+                (form, passed) for form in forms for passed in fetched
+                if form == (raw[0] - arity * passed[0], raw[1] - arity * passed[1])
+            ]
+        if min(raw) < 0 and fits:
+            note, (form, passed) = rng.choice("mn"), rng.choice(fits)
+            table[(note, where, raw)] = Page(note, where, raw, form, passed, rng.choice("mn"))
+    starts = {deed: rng.choice("mn") for deed in DEEDS}
+    return Book(Reader("s", ("o",), reads), Machine(arity, tuple(table.values())), starts)
+
+
 def some_books(seed, many=10):
     """Books by rule and by chance."""
     rng = random.Random(seed)

@@ -1,9 +1,10 @@
 """How plans go through the levels of right rows: all that matters between two levels, and what follows from what.
 
-The old row and the rows behind the deeds of a plan are read together, level by level. A node is a triple (old, runs,
-mark): the state of the reader for the old row, or "" if it has ended; a run for each plan; and what else is kept in
-mind. A run is a pair (tail, deeds): what is known of the plan, and a triple (pair, note, state) for each deed that must
-still be followed: the pair for the next level, the note, and the state of the reader for the row behind the deed.
+The old row and the rows behind the deeds of a plan are read together, level by level. A node is a tuple (old, rest,
+runs, mark): the state of the reader for the old row, or "" if it has ended; its rest, which is the number of bundles
+that it still has, or None if what is known of the plans does not depend on it; a run for each plan; and what else is
+kept in mind. A run is a pair (tail, deeds): what is known of the plan, and a triple (pair, note, state) for each deed
+that must still be followed: the pair for the next level, the note, and the state of the reader for the row behind it.
 """
 
 from fingerbooks.book.books import first_pair, is_put
@@ -11,9 +12,11 @@ from fingerbooks.errors import TooMany
 
 MAX_NODES = 20000
 
-# What is known of a plan: all is done so far, or a deed fails, or one cannot be done in an empty row.
+# What is known of a plan: all is done so far; or a deed fails; or one fails if the old row has the rest that is told;
+# or one cannot be done in an empty row.
 DONE = "done"
 FAILED = "failed"
+DOOMED = "doomed"
 STOPPED = "stopped"
 
 # The state of a row that has no more levels, as it is supposed; an empty state is one of a row that cannot be right.
@@ -30,7 +33,7 @@ class Passage:
         self.found = [form]
         # By how many bundles each of these rows has more behind the level than the old row.
         self.gains = []
-        # Whether all that is supposed of the rows can be so.
+        # Whether what was supposed of the rows ahead of the level can be so.
         self.fits = True
         # Whether each deed touches the level, if the row in which it is done has it.
         self.is_busy = True
@@ -63,72 +66,81 @@ class Course:
 
 def is_at_end(node):
     """Whether all rows have ended at a node, and nothing comes to a further level."""
-    old, runs, _ = node
+    old, _, runs, _ = node
     return old == "" and all([pair == (0, 0) for _, deeds in runs for pair, _, _ in deeds])
+
+
+def has_failed(run):
+    """Whether a deed of a plan fails."""
+    return run[0] in (FAILED, DOOMED)
 
 
 def _first_nodes(book, plans, mark_behind):
     """The nodes with which the plans can begin, in rows with levels and in the empty one."""
     found = {}
-    for state in (book.reader.first, ""):
-        for passages in _supposed(lambda rest: [_begun(book, plan, rest) for plan in plans], state == ""):
-            _note_node(found, state, False, passages, mark_behind, (0, 0))
+    for state, known in ((book.reader.first, None), ("", 0)):
+        for rest, passages in _supposed(lambda length: [_begun(book, plan, length) for plan in plans], known):
+            _note_node(found, (state, rest), passages, mark_behind(False, passages), (0, 0))
     return list(found)
 
 
 def _followers(book, node, mark_behind):
     """The nodes that follow from a node, each with the form of fewest bundles that leads there."""
-    old, runs, mark = node
+    old, _, runs, mark = node
     found = {}
-    for form, state in _readings(book, node):
+    for form, state, known in _readings(book, node):
         ended = (old == "", state == "")
-        for passages in _supposed(lambda rest: [_passage(book, run, form, ended, rest) for run in runs], state == ""):
-            _note_node(found, state, mark, passages, mark_behind, form)
+        for rest, passages in _supposed(lambda left: [_passage(book, run, form, ended, left) for run in runs], known):
+            _note_node(found, (state, rest), passages, mark_behind(mark, passages), form)
     return found
 
 
-def _note_node(found, state, mark, passages, mark_behind, form):
-    """Note the node behind passages, if it matters, with the form that leads there."""
-    behind = mark_behind(mark, passages)
-    if behind is not None:
-        node = (state, tuple([(passage.tail, tuple(passage.deeds)) for passage in passages]), behind)
+def _note_node(found, old, passages, mark, form):
+    """Note the node behind passages, if it matters, with the form that leads there; old is a state and a rest."""
+    if mark is not None and all([passage.fits for passage in passages]):
+        runs = tuple([(passage.tail, tuple(passage.deeds)) for passage in passages])
+        state, rest = old
+        node = (state, rest if state == "" or any([_needs_rest(run) for run in runs]) else None, runs, mark)
         if node not in found or sum(form) < sum(found[node]):
             found[node] = form
 
 
+def _needs_rest(run):
+    """Whether what is known of a plan holds only if the old row has the rest that is supposed."""
+    tail, deeds = run
+    return tail == DOOMED or _ENDED in [state for _, _, state in deeds]
+
+
 def _readings(book, node):
-    """The pairs of a form that the old row can have at a level, and its state behind it."""
+    """The triples of a form that the old row can have at a level, its state, and its rest, None if this is unknown."""
+    old, rest, _, _ = node
     if is_at_end(node):
         return []
-    if node[0] == "":
-        return [((0, 0), "")]
+    if old == "":
+        return [((0, 0), "", 0)]
     found = []
-    for form, state in book.reader.onward(node[0]):
-        if book.reader.goes_on(state):
-            found.append((form, state))
-        if state in book.reader.ends:
-            found.append((form, ""))
+    for form, state in book.reader.onward(old):
+        left = None if rest is None else rest - sum(form)
+        if state in book.reader.ends and (left is None or left == 0):
+            found.append((form, "", 0))
+        if book.reader.goes_on(state) and (left is None or (left > 0 and left % book.arity == 0)):
+            found.append((form, state, None if left is None else left // book.arity))
     return found
 
 
-def _supposed(passages_with, has_ended):
-    """The lists of passages that are possible, one for each thing that can be supposed of the rest of the old row.
+def _supposed(passages_with, known):
+    """The pairs of a rest of the old row and the passages with it, for each rest that makes a difference.
 
-    The rest is the number of its bundles behind the level; passages_with tells the passages for a rest, and for None,
-    which stands for all rests with which none of the other rows has ended.
+    The rest is the number of its bundles behind the level, if it is not known already. passages_with tells the passages
+    for a rest, and for None, which stands for all rests with which none of the other rows has ended.
     """
-    if has_ended:
-        return _fitting([passages_with(0)])
+    if known is not None:
+        return [(known, passages_with(known))]
     most = passages_with(None)
     # Another row ends where the old one has a rest that makes up for what is gained. The first one that does so passes
     # the level as with None, so its gain is among these.
     rests = sorted(set([-gain for passage in most for gain in passage.gains if gain < 0]))
-    return _fitting([most] + [passages_with(rest) for rest in rests])
-
-
-def _fitting(tried):
-    """Those lists of passages all of which fit."""
-    return [passages for passages in tried if all([passage.fits for passage in passages])]
+    return [(None, most)] + [(rest, passages_with(rest)) for rest in rests]
 
 
 def _begun(book, plan, rest):
@@ -166,9 +178,10 @@ def _passage(book, run, form, ended, rest):
         passage.found.append(new)
         # A deed that has nothing more to do needs no note.
         kept = "" if ended[1] and passed == (0, 0) else after
-        ended = (state == _ENDED, state == _ENDED or (rest is not None and rest + gain == 0))
-        if not _add_deed(book, passage, (passed, kept, state), new, rest is not None and rest + gain == 0):
+        left = None if rest is None else rest + gain
+        if not _add_deed(book, passage, (passed, kept, state), new, left):
             return passage
+        ended = (state == _ENDED, left == 0)
     return passage
 
 
@@ -180,15 +193,21 @@ def _result(book, pair, note, form, ended):
     return book.machine.result(note, where, (form[0] + pair[0], form[1] + pair[1]))
 
 
-def _add_deed(book, passage, deed, new, ends_now):
-    """Add a deed with its state ahead of the level to a passage; whether those behind it must be followed, too."""
+def _add_deed(book, passage, deed, new, left):
+    """Add a deed with its state ahead of the level to a passage; whether those behind it must be followed, too.
+
+    What is left is the number of bundles that its row has behind the level, None if it has not ended there.
+    """
     passed, note, state = deed
+    if left is not None and left < 0:
+        # More is fetched than there is: the deed, or one ahead of it, breaks further in, so this row will not be.
+        passage.tail = DOOMED
+        return False
     if state == _ENDED:
-        # There are no more bundles, or the row did not end where it was supposed to.
-        passage.fits = passage.fits and ends_now and new == (0, 0)
+        # There is nothing more, as no bundle is lost or made.
         passage.deeds.append(deed)
         return True
-    if ends_now and new == (0, 0):
+    if left == 0 and new == (0, 0):
         # Then it would have ended ahead of this level.
         passage.fits = False
         return False
@@ -197,7 +216,7 @@ def _add_deed(book, passage, deed, new, ends_now):
         # Whatever comes further in, this row is not right.
         passage.tail = FAILED
         return False
-    if ends_now:
+    if left == 0:
         is_right = behind in book.reader.ends
         state = _ENDED
     else:

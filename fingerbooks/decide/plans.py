@@ -2,7 +2,7 @@
 
 from fingerbooks.base.forms import without_empty_end
 from fingerbooks.book.books import check_book, is_deed
-from fingerbooks.decide.courses import DONE, FAILED, Course, is_at_end
+from fingerbooks.decide.courses import DONE, Course, has_failed, is_at_end
 from fingerbooks.errors import InvalidOperation
 from fingerbooks.read.ways import forms_along, shortest_ways
 
@@ -44,7 +44,7 @@ def _mark_of_both(mark, passages):
 
 def _are_unlike(node):
     """Whether of two plans one is done and the other is not, or their rows differ."""
-    _, runs, mark = node
+    _, _, runs, mark = node
     return mark or runs[0][0] != DONE or runs[1][0] != DONE
 
 
@@ -69,7 +69,7 @@ def _mark_of_straying(mark, passages):
 
 def _has_strayed(node):
     """Whether the row behind a plan differs from the old one."""
-    return node[2]
+    return node[3]
 
 
 def failing_row(book, plan):
@@ -86,7 +86,7 @@ def _no_mark(mark, passages):
 
 def _has_failed(node):
     """Whether a deed of a plan fails."""
-    return node[1][0][0] == FAILED
+    return has_failed(node[2][0])
 
 
 def _least_row(book, plans, mark_behind, is_goal):
